@@ -167,11 +167,11 @@ func TestUvarintErrors(t *testing.T) {
 	}
 }
 
-// TestUvarintAgainstDefinition reads all short strings over the bytes that matter, alone and at the end of the longest varints.
+// TestUvarintAgainstDefinition reads all strings of up to four of the bytes that matter, alone and at the end of the longest varints.
 func TestUvarintAgainstDefinition(t *testing.T) {
 	alphabet := []byte{0x00, 0x01, 0x02, 0x7f, 0x80, 0x81, 0xff}
 	list := [][]byte{nil}
-	for from := 0; len(list) < 2000; from++ {
+	for from := range 1 + 7 + 49 + 343 {
 		for _, c := range alphabet {
 			list = append(list, slices.Concat(list[from], []byte{c}))
 		}
