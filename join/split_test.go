@@ -7,25 +7,26 @@ import (
 	"versionmap/api"
 	"versionmap/reserve"
 	"versionmap/shape"
+	"versionmap/treetest"
 )
 
 // splitAround splits a tree at a key, and next to it.
-func (f *fixture) splitAround(root uint32, key int64) {
-	f.t.Helper()
+func (f fixture) splitAround(root uint32, key int64) {
+	f.T.Helper()
 	for d := int64(-1); d <= 1; d++ {
 		if less, greater, err := f.split(root, key+d); err == api.OK {
-			f.release(less, greater)
+			f.Release(less, greater)
 		}
 	}
 }
 
 // splitAll splits a tree at some of its keys and at the ends of the integers, with as many free slots as that requires, and at fewer keys with one slot too few.
-func splitAll(t *testing.T, s *tree, positions []int) {
+func splitAll(t *testing.T, s *treetest.Tree, positions []int) {
 	t.Helper()
-	n := s.size()
-	entries := spaced(n)
+	n := s.Size()
+	entries := treetest.Spaced(n)
 	f := newFixture(t, n+reserve.Split(n))
-	root := f.plant(s, entries)
+	root := f.Plant(s, entries)
 	ends := []int64{math.MinInt64 + 1, math.MaxInt64 - 1}
 	for _, at := range positions {
 		f.splitAround(root, entries[at].Key)
@@ -33,82 +34,49 @@ func splitAll(t *testing.T, s *tree, positions []int) {
 	for _, key := range ends {
 		f.splitAround(root, key)
 	}
-	f.leave(reserve.Split(n) - 1)
+	f.Leave(reserve.Split(n) - 1)
 	for _, at := range positions[:min(3, len(positions))] {
 		f.splitAround(root, entries[at].Key)
 	}
-	f.leave(0)
+	f.Leave(0)
 	for _, key := range ends {
 		f.splitAround(root, key)
 	}
 }
 
-// some returns positions of a list: the last one, the first one, and at most most others.
-func some(n, most int) []int {
-	if n == 0 {
-		return nil
-	}
-	all := []int{n - 1}
-	for at := 0; at < n-1; at += 1 + n/most {
-		all = append(all, at)
-	}
-	return all
-}
-
 func TestSplitSmallTrees(t *testing.T) {
-	for _, s := range smallTrees(9) {
-		splitAll(t, s, some(s.size(), 100))
+	for _, s := range treetest.UpTo(9) {
+		splitAll(t, s, treetest.Some(s.Size(), 100))
 	}
 }
 
 func TestSplitManyTrees(t *testing.T) {
-	for _, s := range manyTrees(700) {
-		splitAll(t, s, some(s.size(), 25))
+	for _, s := range treetest.Many(700) {
+		splitAll(t, s, treetest.Some(s.Size(), 25))
 	}
-}
-
-// deepest returns the position of a node of the tree that no other one is below.
-func (s *tree) deepest() int {
-	at := 0
-	for height := s.height(); height > 1; height-- {
-		if s.left.height() == height-1 {
-			s = s.left
-		} else {
-			at += s.left.size() + 1
-			s = s.right
-		}
-	}
-	return at
-}
-
-func (s *tree) height() int {
-	if s == nil {
-		return 0
-	}
-	return 1 + max(s.left.height(), s.right.height())
 }
 
 // TestSplitHighTrees has the highest trees for which an arena has enough slots, and cuts their longest path everywhere.
 func TestSplitHighTrees(t *testing.T) {
-	for _, way := range turns() {
-		s := thinnest(35, way)
-		at := s.deepest()
-		splitAll(t, s, []int{at, s.size() / 2})
+	for _, way := range treetest.Turns() {
+		s := treetest.Thinnest(35, way)
+		at := s.Deepest()
+		splitAll(t, s, []int{at, s.Size() / 2})
 	}
 	n := api.MaxSlots
 	for n+reserve.Split(n) > api.MaxSlots {
 		n--
 	}
-	splitAll(t, full(n), some(n, 3))
+	splitAll(t, treetest.Full(n), treetest.Some(n, 3))
 }
 
 // TestSplitWithoutSlots has the cases for which no slot is required, with a tree that uses every slot, and those beside them.
 func TestSplitWithoutSlots(t *testing.T) {
 	for _, n := range []int{1, 2, 3, 10, 1000, api.MaxSlots} {
 		f := newFixture(t, n)
-		entries := spaced(n)
+		entries := treetest.Spaced(n)
 		first, last := entries[0].Key, entries[n-1].Key
-		root := f.plant(full(n), entries)
+		root := f.Plant(treetest.Full(n), entries)
 		for _, key := range []int64{math.MinInt64, first - 1, last + 1, math.MaxInt64} {
 			if _, _, err := f.split(root, key); err != api.OK {
 				t.Errorf("P13.3: %d outside of %d keys: %d", key, n, err)
@@ -129,16 +97,16 @@ func TestSplitWithoutSlots(t *testing.T) {
 func TestSplitFreeSlots(t *testing.T) {
 	for n, required := range map[int]int{1: 36, 2: 48, 5: 72, 9: 84, 20: 120} {
 		f := newFixture(t, n+required)
-		entries := spaced(n)
-		root := f.plant(full(n), entries)
+		entries := treetest.Spaced(n)
+		root := f.Plant(treetest.Full(n), entries)
 		for free := range required + 1 {
-			f.leave(free)
+			f.Leave(free)
 			less, greater, err := f.split(root, entries[n/2].Key)
 			if (err == api.OK) != (free == required) {
 				t.Errorf("P13.3: %d keys, %d free: %d", n, free, err)
 			}
 			if err == api.OK {
-				f.release(less, greater)
+				f.Release(less, greater)
 			}
 		}
 	}
@@ -148,8 +116,8 @@ func TestSplitFreeSlots(t *testing.T) {
 func TestSplitOneEntry(t *testing.T) {
 	for _, e := range []api.Entry{{Key: 5, Value: 50}, {Key: 0, Value: 0}, {Key: math.MinInt64, Value: -1}, {Key: math.MaxInt64, Value: 1}} {
 		f := newFixture(t, 1+reserve.Split(1))
-		root := f.plant(full(1), []api.Entry{e})
-		less, value, found, greater, err := Split(f.arena, root, e.Key)
+		root := f.Plant(treetest.Full(1), []api.Entry{e})
+		less, value, found, greater, err := Split(f.Arena, root, e.Key)
 		if less != 0 || value != e.Value || !found || greater != 0 || err != api.OK {
 			t.Errorf("P13.3: %v: %d, %d, %t, %d, %d", e, less, value, found, greater, err)
 		}
@@ -162,19 +130,19 @@ func TestSplitOneEntry(t *testing.T) {
 func TestSplitAndJoin(t *testing.T) {
 	const n = 200
 	f := newFixture(t, 2000)
-	entries := spaced(n)
-	root := f.plant(full(n), entries)
+	entries := treetest.Spaced(n)
+	root := f.Plant(treetest.Full(n), entries)
 	for _, e := range entries {
 		less, greater, _ := f.split(root, e.Key)
 		joined, _ := f.join(less, e, greater)
 		without, _ := f.concat(less, greater)
-		if f.arena.Size(joined) != n || f.arena.Size(without) != n-1 {
-			t.Fatalf("P13.1, P13.2: %d and %d keys", f.arena.Size(joined), f.arena.Size(without))
+		if f.Arena.Size(joined) != n || f.Arena.Size(without) != n-1 {
+			t.Fatalf("P13.1, P13.2: %d and %d keys", f.Arena.Size(joined), f.Arena.Size(without))
 		}
-		f.release(root, less, greater, without)
+		f.Release(root, less, greater, without)
 		root = joined
 	}
-	if shape.Check(f.arena, root) != api.OK || f.arena.Free() != 2000-n {
-		t.Errorf("P13.5: %d free", f.arena.Free())
+	if shape.Check(f.Arena, root) != api.OK || f.Arena.Free() != 2000-n {
+		t.Errorf("P13.5: %d free", f.Arena.Free())
 	}
 }

@@ -8,6 +8,7 @@ import (
 	"versionmap/api"
 	"versionmap/arena"
 	"versionmap/shape"
+	"versionmap/treetest"
 )
 
 // fixture is a tree with its entries.
@@ -138,152 +139,14 @@ func (f fixture) compareSome(t *testing.T, next func(int) int) {
 	}
 }
 
-func newArena(t *testing.T, capacity int) *arena.Arena {
+// plant plants the tree in an arena and holds that it is one.
+func plant(t *testing.T, s *treetest.Tree, a *arena.Arena, entries []api.Entry) fixture {
 	t.Helper()
-	a, err := arena.New(capacity)
-	if err != api.OK {
-		t.Fatalf("P5.1: New(%d): %d", capacity, err)
-	}
-	return a
-}
-
-// makeNode makes a node and takes over the caller's references to its children.
-func makeNode(t *testing.T, a *arena.Arena, e api.Entry, left, right uint32) uint32 {
-	t.Helper()
-	i, err := a.Make(e.Key, e.Value, left, right)
-	if err != api.OK {
-		t.Fatalf("P5.2: Make(%v, %d, %d): %d", e, left, right, err)
-	}
-	a.Release(left)
-	a.Release(right)
-	return i
-}
-
-// tree is a tree without its entries; nil is the empty one.
-type tree struct {
-	left, right *tree
-	keys        int
-}
-
-func (s *tree) size() int {
-	if s == nil {
-		return 0
-	}
-	return s.keys
-}
-
-func node(left, right *tree) *tree {
-	return &tree{left, right, left.size() + 1 + right.size()}
-}
-
-// plant makes the tree with the entries in the order of an in-order traversal.
-func (s *tree) plant(t *testing.T, a *arena.Arena, entries []api.Entry) uint32 {
-	t.Helper()
-	if s == nil {
-		return 0
-	}
-	at := s.left.size()
-	left := s.left.plant(t, a, entries[:at])
-	right := s.right.plant(t, a, entries[at+1:])
-	return makeNode(t, a, entries[at], left, right)
-}
-
-// with plants the tree in an arena and holds that it is one.
-func (s *tree) with(t *testing.T, a *arena.Arena, entries []api.Entry) fixture {
-	t.Helper()
-	root := s.plant(t, a, entries)
+	root := s.Plant(t, a, entries)
 	if err := shape.Check(a, root); err != api.OK {
 		t.Fatalf("P7.3: %d", err)
 	}
 	return fixture{a, root, entries}
-}
-
-// allTrees returns all trees of n nodes that are balanced.
-func allTrees(n int) []*tree {
-	if n == 0 {
-		return []*tree{nil}
-	}
-	var all []*tree
-	for left := range n {
-		if !shape.Balanced(left, n-1-left) {
-			continue
-		}
-		for _, l := range allTrees(left) {
-			for _, r := range allTrees(n - 1 - left) {
-				all = append(all, node(l, r))
-			}
-		}
-	}
-	return all
-}
-
-// full returns the tree of n keys that is as low as possible.
-func full(n int) *tree {
-	if n == 0 {
-		return nil
-	}
-	return node(full(n/2), full(n-1-n/2))
-}
-
-// thinnest returns a tree of the least number of keys for its height. Its longest path turns as turns says, again and again, from the root downwards: true is left.
-func thinnest(height int, turns []bool) *tree {
-	if height == 0 {
-		return nil
-	}
-	high := thinnest(height-1, append(slices.Clone(turns[1:]), turns[0]))
-	low := full(shape.MinKeys(height) - 1 - shape.MinKeys(height-1))
-	if turns[0] {
-		return node(high, low)
-	}
-	return node(low, high)
-}
-
-// height returns the number of nodes on the longest path downwards.
-func (s *tree) height() int {
-	if s == nil {
-		return 0
-	}
-	return 1 + max(s.left.height(), s.right.height())
-}
-
-// deepest returns the position of the node at the end of the longest path, counted from 0.
-func (s *tree) deepest() int {
-	switch {
-	case s.height() == 1:
-		return 0
-	case s.left.height() > s.right.height():
-		return s.left.deepest()
-	}
-	return s.left.size() + 1 + s.right.deepest()
-}
-
-// random returns a tree of n keys in which each node is as far from the middle as next says, and balanced.
-func random(n int, next func(int) int) *tree {
-	if n == 0 {
-		return nil
-	}
-	least := (n + 4) / 4
-	left := least - 1 + next(n+1-2*least+1)
-	return node(random(left, next), random(n-1-left, next))
-}
-
-// generator returns a function whose results are from 0 to before n and follow no short rule.
-func generator() func(n int) int {
-	x := uint64(10)
-	return func(n int) int {
-		x = x*6364136223846793005 + 1442695040888963407
-		return int(x>>33) % n
-	}
-}
-
-// spaced returns n entries whose keys are on both sides of 0 and have gaps between them. No value is the key or the position of its entry.
-func spaced(n int) []api.Entry {
-	entries := make([]api.Entry, n)
-	for i := range entries {
-		key := int64(3 * (i - n/2))
-		entries[i] = api.Entry{Key: key, Value: 1000 - 7*key}
-	}
-	return entries
 }
 
 // withKeys returns entries with these keys.
@@ -296,8 +159,8 @@ func withKeys(keys ...int64) []api.Entry {
 }
 
 func TestExample(t *testing.T) {
-	a := newArena(t, 3)
-	root := full(3).plant(t, a, withKeys(1, 4, 9))
+	a := treetest.NewArena(t, 3)
+	root := treetest.Full(3).Plant(t, a, withKeys(1, 4, 9))
 	if n := Rank(a, root, 4); n != 1 {
 		t.Errorf("P10.1: Rank(4): %d", n)
 	}
@@ -314,9 +177,9 @@ func TestExample(t *testing.T) {
 
 // TestEmptyTree has the empty tree in an empty arena and in one with nodes.
 func TestEmptyTree(t *testing.T) {
-	a := newArena(t, 3)
+	a := treetest.NewArena(t, 3)
 	fixture{a, 0, nil}.compareAll(t)
-	full(3).plant(t, a, spaced(3))
+	treetest.Full(3).Plant(t, a, treetest.Spaced(3))
 	fixture{a, 0, nil}.compareAll(t)
 	if e, ok := Median(a, 0); ok || e != (api.Entry{}) {
 		t.Errorf("P10.2: Median of the empty tree: %v, %t", e, ok)
@@ -325,7 +188,7 @@ func TestEmptyTree(t *testing.T) {
 
 // TestRankByHand has ranks that were found without the model.
 func TestRankByHand(t *testing.T) {
-	f := full(5).with(t, newArena(t, 5), withKeys(-20, -3, 0, 7, 8))
+	f := plant(t, treetest.Full(5), treetest.NewArena(t, 5), withKeys(-20, -3, 0, 7, 8))
 	for _, c := range []struct {
 		key  int64
 		want int
@@ -341,7 +204,7 @@ func TestRankByHand(t *testing.T) {
 
 // TestCountByHand has counts that were found without the model, in a tree with the least and the greatest integer.
 func TestCountByHand(t *testing.T) {
-	f := full(5).with(t, newArena(t, 5), withKeys(math.MinInt64, -3, 0, 7, math.MaxInt64))
+	f := plant(t, treetest.Full(5), treetest.NewArena(t, 5), withKeys(math.MinInt64, -3, 0, 7, math.MaxInt64))
 	for _, c := range []struct {
 		lo, hi int64
 		want   int
@@ -360,9 +223,9 @@ func TestCountByHand(t *testing.T) {
 
 // TestMedianByHand has medians that were found without the model.
 func TestMedianByHand(t *testing.T) {
-	a := newArena(t, 7)
+	a := treetest.NewArena(t, 7)
 	for n, want := range []int64{0, 10, 10, 20, 20, 30, 30, 40} {
-		f := full(n).with(t, a, withKeys(10, 20, 30, 40, 50, 60, 70)[:n])
+		f := plant(t, treetest.Full(n), a, withKeys(10, 20, 30, 40, 50, 60, 70)[:n])
 		if e, ok := Median(a, f.root); e.Key != want || ok != (n > 0) {
 			t.Errorf("P10.2: Median of %d keys: %v, %t", n, e, ok)
 		}
@@ -373,10 +236,10 @@ func TestMedianByHand(t *testing.T) {
 // TestAllTrees has each balanced tree of up to nine nodes.
 func TestAllTrees(t *testing.T) {
 	const most = 9
-	a := newArena(t, most)
+	a := treetest.NewArena(t, most)
 	for n := range most + 1 {
-		for _, s := range allTrees(n) {
-			f := s.with(t, a, spaced(n))
+		for _, s := range treetest.All(n) {
+			f := plant(t, s, a, treetest.Spaced(n))
 			f.compareAll(t)
 			a.Release(f.root)
 		}
@@ -386,7 +249,7 @@ func TestAllTrees(t *testing.T) {
 // TestExtremeKeys has all trees whose keys are among some that are at the ends of the integers and around 0.
 func TestExtremeKeys(t *testing.T) {
 	keys := []int64{math.MinInt64, math.MinInt64 + 1, -1, 0, 1, math.MaxInt64 - 1, math.MaxInt64}
-	a := newArena(t, len(keys))
+	a := treetest.NewArena(t, len(keys))
 	for set := range 1 << len(keys) {
 		var chosen []int64
 		for bit, key := range keys {
@@ -394,8 +257,8 @@ func TestExtremeKeys(t *testing.T) {
 				chosen = append(chosen, key)
 			}
 		}
-		for _, s := range allTrees(len(chosen)) {
-			f := s.with(t, a, withKeys(chosen...))
+		for _, s := range treetest.All(len(chosen)) {
+			f := plant(t, s, a, withKeys(chosen...))
 			f.comparePositions(t)
 			for _, lo := range keys {
 				f.compareRank(t, lo)
@@ -410,15 +273,15 @@ func TestExtremeKeys(t *testing.T) {
 
 // TestFarKeys has keys whose difference is greater than every integer, and keys that are equal modulo 2^32.
 func TestFarKeys(t *testing.T) {
-	a := newArena(t, 7)
+	a := treetest.NewArena(t, 7)
 	for _, keys := range [][]int64{
 		{-3 << 61, -1 << 62, 1 << 62, 3 << 61},
 		{1, 1<<32 + 1, 1<<33 + 1, 1<<34 + 1},
 		{-1 << 33, -1 << 32, 0, 1 << 32, 1 << 33},
 		{math.MinInt32 - 1, math.MinInt32, math.MaxInt32, math.MaxInt32 + 1, math.MaxUint32, math.MaxUint32 + 1},
 	} {
-		for _, s := range allTrees(len(keys)) {
-			f := s.with(t, a, withKeys(keys...))
+		for _, s := range treetest.All(len(keys)) {
+			f := plant(t, s, a, withKeys(keys...))
 			f.compareAll(t)
 			a.Release(f.root)
 		}
@@ -434,7 +297,7 @@ func TestValues(t *testing.T) {
 			entries = append(entries, api.Entry{Key: int64(i - zero), Value: value})
 		}
 		entries[zero].Value = 0
-		f := full(len(entries)).with(t, newArena(t, len(entries)), entries)
+		f := plant(t, treetest.Full(len(entries)), treetest.NewArena(t, len(entries)), entries)
 		f.compareAll(t)
 		if e, ok := Select(f.arena, f.root, zero); e != (api.Entry{}) || !ok {
 			t.Errorf("P10.1: Select(%d): %v, %t", zero, e, ok)
@@ -447,7 +310,7 @@ func TestValues(t *testing.T) {
 
 // TestPositionsOutside has positions that would be in the tree if some of their bits were left out.
 func TestPositionsOutside(t *testing.T) {
-	f := random(6, generator()).with(t, newArena(t, 6), spaced(6))
+	f := plant(t, treetest.Random(6, treetest.Generator(10)), treetest.NewArena(t, 6), treetest.Spaced(6))
 	for shift := range 64 {
 		for i := -7; i <= 7; i++ {
 			f.compareSelect(t, i+1<<shift)
@@ -458,10 +321,10 @@ func TestPositionsOutside(t *testing.T) {
 
 // TestRandomTrees has larger trees of many shapes.
 func TestRandomTrees(t *testing.T) {
-	next := generator()
+	next := treetest.Generator(10)
 	for range 60 {
 		n := next(150)
-		f := random(n, next).with(t, newArena(t, 150), spaced(n))
+		f := plant(t, treetest.Random(n, next), treetest.NewArena(t, 150), treetest.Spaced(n))
 		f.compareSome(t, next)
 	}
 }
@@ -478,8 +341,8 @@ func entriesOf(a *arena.Arena, i uint32) []api.Entry {
 
 // TestSubtrees has each subtree of a tree as a tree of its own: the keys above it do not count.
 func TestSubtrees(t *testing.T) {
-	next := generator()
-	f := random(60, next).with(t, newArena(t, 60), spaced(60))
+	next := treetest.Generator(10)
+	f := plant(t, treetest.Random(60, next), treetest.NewArena(t, 60), treetest.Spaced(60))
 	for i := uint32(1); i <= 60; i++ {
 		sub := fixture{f.arena, i, entriesOf(f.arena, i)}
 		sub.compareSome(t, next)
@@ -492,8 +355,8 @@ func TestSubtrees(t *testing.T) {
 
 // TestVersions has trees that share subtrees, and of which some are released again.
 func TestVersions(t *testing.T) {
-	a := newArena(t, 40)
-	base := full(15).with(t, a, spaced(15))
+	a := treetest.NewArena(t, 40)
+	base := plant(t, treetest.Full(15), a, treetest.Spaced(15))
 	old, _ := a.Node(base.root)
 	var versions []fixture
 	for value := range int64(5) {
@@ -505,7 +368,7 @@ func TestVersions(t *testing.T) {
 	}
 	a.Release(base.root)
 	a.Release(versions[0].root)
-	full(15).plant(t, a, spaced(15))
+	treetest.Full(15).Plant(t, a, treetest.Spaced(15))
 	for _, f := range versions[1:] {
 		f.compareAll(t)
 	}
@@ -513,16 +376,16 @@ func TestVersions(t *testing.T) {
 
 // TestThinnestTrees has trees of all heights that an arena has room for, each as high as it can be, and the keys around the end of the longest path.
 func TestThinnestTrees(t *testing.T) {
-	a := newArena(t, api.MaxSlots)
+	a := treetest.NewArena(t, api.MaxSlots)
 	for _, way := range [][]bool{{true}, {false}, {true, false}, {false, true}, {true, true, false}} {
 		for height := 1; shape.MinKeys(height) <= api.MaxSlots; height++ {
-			s := thinnest(height, way)
-			f := s.with(t, a, spaced(s.size()))
-			if s.height() != height {
-				t.Fatalf("height %d, want %d", s.height(), height)
+			s := treetest.Thinnest(height, way)
+			f := plant(t, s, a, treetest.Spaced(s.Size()))
+			if s.Height() != height {
+				t.Fatalf("height %d, want %d", s.Height(), height)
 			}
 			f.compareMedian(t)
-			deep := s.deepest()
+			deep := s.Deepest()
 			for i := deep - 1; i <= deep+1; i++ {
 				f.compareSelect(t, i)
 				key := f.entries[deep].Key + int64(i-deep)
@@ -539,7 +402,7 @@ func TestThinnestTrees(t *testing.T) {
 
 // TestFullArena has a tree that uses every slot: more keys than 16 bits can count.
 func TestFullArena(t *testing.T) {
-	f := full(api.MaxSlots).with(t, newArena(t, api.MaxSlots), spaced(api.MaxSlots))
+	f := plant(t, treetest.Full(api.MaxSlots), treetest.NewArena(t, api.MaxSlots), treetest.Spaced(api.MaxSlots))
 	if f.arena.Free() != 0 {
 		t.Fatalf("P5.2: %d free", f.arena.Free())
 	}
@@ -568,8 +431,8 @@ func TestFullArena(t *testing.T) {
 
 // TestTwoArenas has the same indexes in two arenas, in turn.
 func TestTwoArenas(t *testing.T) {
-	f := full(9).with(t, newArena(t, 9), spaced(9))
-	g := full(9).with(t, newArena(t, 20), withKeys(-50, -30, 2, 3, 4, 5, 6, 7, 80))
+	f := plant(t, treetest.Full(9), treetest.NewArena(t, 9), treetest.Spaced(9))
+	g := plant(t, treetest.Full(9), treetest.NewArena(t, 20), withKeys(-50, -30, 2, 3, 4, 5, 6, 7, 80))
 	if f.root != g.root {
 		t.Fatalf("roots %d and %d", f.root, g.root)
 	}
@@ -608,9 +471,9 @@ func unchanged(t *testing.T, a *arena.Arena, calls func()) {
 }
 
 func TestNothingChanges(t *testing.T) {
-	a := newArena(t, 40)
-	f := full(20).with(t, a, spaced(20))
-	a.Release(full(10).plant(t, a, spaced(10)))
+	a := treetest.NewArena(t, 40)
+	f := plant(t, treetest.Full(20), a, treetest.Spaced(20))
+	a.Release(treetest.Full(10).Plant(t, a, treetest.Spaced(10)))
 	unchanged(t, a, func() {
 		for range 2 {
 			f.compareAll(t)
@@ -625,8 +488,8 @@ func TestNothingChanges(t *testing.T) {
 func TestRootInvalid(t *testing.T) {
 	const capacity = 4
 	for allocated := range capacity + 1 {
-		a := newArena(t, capacity)
-		full(allocated).plant(t, a, spaced(allocated))
+		a := treetest.NewArena(t, capacity)
+		treetest.Full(allocated).Plant(t, a, treetest.Spaced(allocated))
 		unchanged(t, a, func() {
 			for _, i := range []uint32{1, 2, 3, 4, 5, 6, api.MaxSlots, api.MaxSlots + 1, 1<<17 + 1, 1 << 31, 1<<31 + 1, math.MaxUint32 - 1, math.MaxUint32} {
 				for _, key := range []int64{math.MinInt64, -3, -1, 0, 1, math.MaxInt64} {
@@ -639,10 +502,10 @@ func TestRootInvalid(t *testing.T) {
 
 // TestReleasedRoot holds that a slot that was released is a tree again as soon as it is allocated again, and then the new one.
 func TestReleasedRoot(t *testing.T) {
-	a := newArena(t, 3)
+	a := treetest.NewArena(t, 3)
 	for n := range 9 {
 		entries := withKeys(int64(n), int64(2*n+1), 30)[:1+n%3]
-		f := full(len(entries)).with(t, a, entries)
+		f := plant(t, treetest.Full(len(entries)), a, entries)
 		f.compareAll(t)
 		a.Release(f.root)
 		callAll(a, f.root, 0)
@@ -653,21 +516,21 @@ func TestReleasedRoot(t *testing.T) {
 func TestNoTree(t *testing.T) {
 	for _, step := range []int64{-1, 0, 1} {
 		for _, left := range []bool{true, false} {
-			a := newArena(t, api.MaxSlots)
+			a := treetest.NewArena(t, api.MaxSlots)
 			root := uint32(0)
 			for k := range int64(api.MaxSlots) {
 				e := api.Entry{Key: step * k}
 				if left {
-					root = makeNode(t, a, e, root, 0)
+					root = treetest.MakeNode(t, a, root, e, 0)
 				} else {
-					root = makeNode(t, a, e, 0, root)
+					root = treetest.MakeNode(t, a, 0, e, root)
 				}
 			}
 			for _, key := range []int64{math.MinInt64, -1000, -1, 0, 1000, math.MaxInt64} {
 				callAll(a, root, key)
 			}
 		}
-		a := newArena(t, 31)
+		a := treetest.NewArena(t, 31)
 		root := uint32(0)
 		for k := range int64(31) {
 			root, _ = a.Make(step*k, 0, root, root)
@@ -681,7 +544,7 @@ func TestNoTree(t *testing.T) {
 // TestCircles has circles and children that are not allocated. A caller makes them that releases references that it does not hold. The functions return nevertheless.
 func TestCircles(t *testing.T) {
 	for _, left := range []bool{true, false} {
-		a := newArena(t, 3)
+		a := treetest.NewArena(t, 3)
 		child := func(i uint32) (uint32, uint32) {
 			if left {
 				return i, 0
@@ -711,8 +574,8 @@ func TestCircles(t *testing.T) {
 // TestReleasedTooOften has callers that release references that they do not hold.
 func TestReleasedTooOften(t *testing.T) {
 	const capacity = 5
-	a := newArena(t, capacity)
-	next := generator()
+	a := treetest.NewArena(t, capacity)
+	next := treetest.Generator(10)
 	for range 20000 {
 		i, j := uint32(next(capacity+2)), uint32(next(capacity+2))
 		if next(2) == 0 {

@@ -8,6 +8,7 @@ import (
 	"versionmap/api"
 	"versionmap/arena"
 	"versionmap/audit"
+	"versionmap/treetest"
 )
 
 // rotation is a function of the package with its wording.
@@ -112,66 +113,38 @@ func listing(d api.Dump, i uint32) []api.Entry {
 	return append(list, listing(d, s.Node.Right)...)
 }
 
-// fixture is an arena with all references that callers hold, each as often as it is held.
+// fixture calls the functions in an arena and compares them with the chapter.
 type fixture struct {
-	t     *testing.T
-	arena *arena.Arena
-	held  []uint32
+	*treetest.Fixture
 }
 
-func newFixture(t *testing.T, capacity int) *fixture {
+func newFixture(t *testing.T, capacity int) fixture {
 	t.Helper()
-	a, err := arena.New(capacity)
-	if err != api.OK {
-		t.Fatalf("P5.1: New(%d): %d", capacity, err)
-	}
-	return &fixture{t, a, nil}
-}
-
-// make makes a node and keeps the reference to it.
-func (f *fixture) make(left uint32, e api.Entry, right uint32) uint32 {
-	f.t.Helper()
-	i, err := f.arena.Make(e.Key, e.Value, left, right)
-	if err != api.OK {
-		f.t.Fatalf("P5.2: Make(%v, %d, %d): %d", e, left, right, err)
-	}
-	f.held = append(f.held, i)
-	return i
-}
-
-// release gives one reference back.
-func (f *fixture) release(i uint32) {
-	f.t.Helper()
-	at := slices.Index(f.held, i)
-	if at < 0 {
-		f.t.Fatalf("no reference to %d is held", i)
-	}
-	f.held = slices.Delete(f.held, at, at+1)
-	f.arena.Release(i)
+	return fixture{treetest.New(t, capacity)}
 }
 
 // keepOnly gives all references back but one to the root.
-func (f *fixture) keepOnly(root uint32) {
-	f.t.Helper()
-	f.arena.Retain(root)
-	for _, i := range f.held {
-		f.arena.Release(i)
+func (f fixture) keepOnly(root uint32) {
+	f.T.Helper()
+	f.Arena.Retain(root)
+	for _, i := range f.Held {
+		f.Arena.Release(i)
 	}
-	f.held = []uint32{root}
+	f.Held = []uint32{root}
 }
 
 // fill makes leaves until so many slots are free.
-func (f *fixture) fill(free int) {
-	f.t.Helper()
-	for f.arena.Free() > free {
-		f.make(0, api.Entry{Key: math.MinInt64, Value: 1 << 40}, 0)
+func (f fixture) fill(free int) {
+	f.T.Helper()
+	for f.Arena.Free() > free {
+		f.Make(0, api.Entry{Key: math.MinInt64, Value: 1 << 40}, 0)
 	}
 }
 
 // rotate calls r and compares the result, the error and the effects with the chapter. The fixture holds the reference to the result.
-func (f *fixture) rotate(r rotation, root uint32) (uint32, api.Errno) {
-	f.t.Helper()
-	before := f.arena.Dump()
+func (f fixture) rotate(r rotation, root uint32) (uint32, api.Errno) {
+	f.T.Helper()
+	before := f.Arena.Dump()
 	want := r.model(view(before, root, 3))
 	wantErr := api.OK
 	switch {
@@ -180,31 +153,31 @@ func (f *fixture) rotate(r rotation, root uint32) (uint32, api.Errno) {
 	case len(before.Free) < r.slots:
 		wantErr = api.ErrFull
 	}
-	got, err := r.call(f.arena, root)
-	after := f.arena.Dump()
+	got, err := r.call(f.Arena, root)
+	after := f.Arena.Dump()
 	if err != wantErr {
-		f.t.Fatalf("P12.3: %s(%d), %d free: %d, want %d", r.name, root, len(before.Free), err, wantErr)
+		f.T.Fatalf("P12.3: %s(%d), %d free: %d, want %d", r.name, root, len(before.Free), err, wantErr)
 	}
 	if err != api.OK {
 		if got != 0 {
-			f.t.Fatalf("P12.3: %s(%d): %d with the error %d", r.name, root, got, err)
+			f.T.Fatalf("P12.3: %s(%d): %d with the error %d", r.name, root, got, err)
 		}
 		f.compareDumps(before, after)
 		return 0, err
 	}
-	f.held = append(f.held, got)
+	f.Held = append(f.Held, got)
 	if !matches(before, after, got, want, map[uint32]bool{}) {
-		f.t.Fatalf("%s: %s(%d): %v, want %v", r.promise, r.name, root, view(after, got, 2), want)
+		f.T.Fatalf("%s: %s(%d): %v, want %v", r.promise, r.name, root, view(after, got, 2), want)
 	}
 	f.checkEffects(r, before, after)
 	f.checkContent(before, after, root, got)
 	return got, err
 }
 
-func (f *fixture) compareDumps(before, after api.Dump) {
-	f.t.Helper()
+func (f fixture) compareDumps(before, after api.Dump) {
+	f.T.Helper()
 	if !slices.Equal(before.Slots, after.Slots) || !slices.Equal(before.Free, after.Free) {
-		f.t.Fatalf("P12.3: a failed call changed the arena: %v, %v", before, after)
+		f.T.Fatalf("P12.3: a failed call changed the arena: %v, %v", before, after)
 	}
 }
 
@@ -227,58 +200,58 @@ func matches(before, after api.Dump, i uint32, want *tree, taken map[uint32]bool
 }
 
 // checkEffects holds that there are no more new nodes than the promises name, that the old ones are as they were, and that the caller holds one more reference, to the result.
-func (f *fixture) checkEffects(r rotation, before, after api.Dump) {
-	f.t.Helper()
+func (f fixture) checkEffects(r rotation, before, after api.Dump) {
+	f.T.Helper()
 	if made := len(before.Free) - len(after.Free); made != r.slots {
-		f.t.Fatalf("%s: %s: %d slots", r.promise, r.name, made)
+		f.T.Fatalf("%s: %s: %d slots", r.promise, r.name, made)
 	}
 	for n, s := range before.Slots {
 		now := after.Slots[n]
 		if s.Allocated && (!now.Allocated || now.Node != s.Node || now.Generation != s.Generation) {
-			f.t.Fatalf("%s: %s changed slot %d: %v, %v", r.promise, r.name, n+1, s, now)
+			f.T.Fatalf("%s: %s changed slot %d: %v, %v", r.promise, r.name, n+1, s, now)
 		}
 	}
-	if found := audit.Check(after, f.held); len(found) > 0 {
-		f.t.Fatalf("%s: %s: the references are wrong: %v", r.promise, r.name, found)
+	if found := audit.Check(after, f.Held); len(found) > 0 {
+		f.T.Fatalf("%s: %s: the references are wrong: %v", r.promise, r.name, found)
 	}
 }
 
 // checkContent compares the entries, or only the aggregates if there are many.
-func (f *fixture) checkContent(before, after api.Dump, root, got uint32) {
-	f.t.Helper()
+func (f fixture) checkContent(before, after api.Dump, root, got uint32) {
+	f.T.Helper()
 	x, y := slotOf(before, root).Node, slotOf(after, got).Node
 	if x.Size != y.Size || x.Sum != y.Sum || x.Min != y.Min || x.Max != y.Max {
-		f.t.Fatalf("P12.4: %v has become %v", x, y)
+		f.T.Fatalf("P12.4: %v has become %v", x, y)
 	}
 	if x.Size > 100 {
 		return
 	}
 	if old, list := listing(before, root), listing(after, got); !slices.Equal(old, list) {
-		f.t.Fatalf("P12.4: the entries %v have become %v", old, list)
+		f.T.Fatalf("P12.4: the entries %v have become %v", old, list)
 	}
 }
 
 // rotateAndBack also holds that releasing the result frees the new nodes, and only these.
-func (f *fixture) rotateAndBack(r rotation, root uint32) {
-	f.t.Helper()
-	before := f.arena.Dump()
+func (f fixture) rotateAndBack(r rotation, root uint32) {
+	f.T.Helper()
+	before := f.Arena.Dump()
 	got, err := f.rotate(r, root)
 	if err != api.OK {
 		return
 	}
-	f.release(got)
-	for n, s := range f.arena.Dump().Slots {
+	f.Release(got)
+	for n, s := range f.Arena.Dump().Slots {
 		if old := before.Slots[n]; s.Count != old.Count || s.Node != old.Node {
-			f.t.Fatalf("%s: %s(%d): slot %d: %v, after the release %v", r.promise, r.name, root, n+1, old, s)
+			f.T.Fatalf("%s: %s(%d): slot %d: %v, after the release %v", r.promise, r.name, root, n+1, old, s)
 		}
 	}
 }
 
 // rotateEverywhere rotates every slot, the empty tree and some numbers that are no index.
-func (f *fixture) rotateEverywhere() {
-	f.t.Helper()
+func (f fixture) rotateEverywhere() {
+	f.T.Helper()
 	for _, r := range rotations() {
-		for i := range uint32(f.arena.Capacity() + 2) {
+		for i := range uint32(f.Arena.Capacity() + 2) {
 			f.rotateAndBack(r, i)
 		}
 		for _, i := range []uint32{api.MaxSlots + 1, 1<<16 + 2, 1<<17 + 3, 1 << 31, 1<<31 + 4, math.MaxUint32 - 1, math.MaxUint32} {
@@ -302,8 +275,8 @@ func entryLists(n int) [][]api.Entry {
 }
 
 // shapes runs visit with the root of each tree with these entries, balanced or not. Afterwards, all slots are free again.
-func (f *fixture) shapes(entries []api.Entry, visit func(root uint32)) {
-	f.t.Helper()
+func (f fixture) shapes(entries []api.Entry, visit func(root uint32)) {
+	f.T.Helper()
 	if len(entries) == 0 {
 		visit(0)
 		return
@@ -311,9 +284,9 @@ func (f *fixture) shapes(entries []api.Entry, visit func(root uint32)) {
 	for at, e := range entries {
 		f.shapes(entries[:at], func(left uint32) {
 			f.shapes(entries[at+1:], func(right uint32) {
-				root := f.make(left, e, right)
+				root := f.Make(left, e, right)
 				visit(root)
-				f.release(root)
+				f.Release(root)
 			})
 		})
 	}
@@ -342,9 +315,9 @@ func TestAllArenas(t *testing.T) {
 			}
 			for left := range n + 1 {
 				for right := range n + 1 {
-					i := f.make(left, entries[n], right)
+					i := f.Make(left, entries[n], right)
 					extend(n + 1)
-					f.release(i)
+					f.Release(i)
 				}
 			}
 		}
@@ -353,19 +326,19 @@ func TestAllArenas(t *testing.T) {
 }
 
 // leaves makes the leaves x, y, z and w, and returns the entries p, q and r that are between them in an in-order traversal.
-func leaves(f *fixture) (x, y, z, w uint32, p, q, r api.Entry) {
+func leaves(f fixture) (x, y, z, w uint32, p, q, r api.Entry) {
 	entries := entryLists(7)[0]
-	x, y = f.make(0, entries[0], 0), f.make(0, entries[2], 0)
-	z, w = f.make(0, entries[4], 0), f.make(0, entries[6], 0)
+	x, y = f.Make(0, entries[0], 0), f.Make(0, entries[2], 0)
+	z, w = f.Make(0, entries[4], 0), f.Make(0, entries[6], 0)
 	return x, y, z, w, entries[1], entries[3], entries[5]
 }
 
 // expect holds that index i has this node, and returns its children.
-func (f *fixture) expect(promise string, i uint32, e api.Entry) (uint32, uint32) {
-	f.t.Helper()
-	n, ok := f.arena.Node(i)
+func (f fixture) expect(promise string, i uint32, e api.Entry) (uint32, uint32) {
+	f.T.Helper()
+	n, ok := f.Arena.Node(i)
 	if !ok || n.Key != e.Key || n.Value != e.Value {
-		f.t.Fatalf("%s: slot %d: %v, %t, want %v", promise, i, n, ok, e)
+		f.T.Fatalf("%s: slot %d: %v, %t, want %v", promise, i, n, ok, e)
 	}
 	return n.Left, n.Right
 }
@@ -374,25 +347,25 @@ func (f *fixture) expect(promise string, i uint32, e api.Entry) (uint32, uint32)
 func TestSingleByHand(t *testing.T) {
 	f := newFixture(t, 12)
 	x, y, z, _, p, q, _ := leaves(f)
-	lower := f.make(y, q, z)
-	root := f.make(x, p, lower)
-	result, err := Left(f.arena, root)
+	lower := f.Make(y, q, z)
+	root := f.Make(x, p, lower)
+	result, err := Left(f.Arena, root)
 	left, right := f.expect("P12.1", result, q)
 	first, second := f.expect("P12.1", left, p)
 	if err != api.OK || first != x || second != y || right != z || left == lower || result == root {
 		t.Errorf("P12.1: Left: ((%d p %d) q %d), %d", first, second, right, err)
 	}
-	if f.arena.Count(result) != 1 || f.arena.Count(left) != 1 {
-		t.Errorf("P12.1: Left: the counts are %d and %d", f.arena.Count(result), f.arena.Count(left))
+	if f.Arena.Count(result) != 1 || f.Arena.Count(left) != 1 {
+		t.Errorf("P12.1: Left: the counts are %d and %d", f.Arena.Count(result), f.Arena.Count(left))
 	}
-	again, err := Right(f.arena, result)
+	again, err := Right(f.Arena, result)
 	outer, inner := f.expect("P12.1", again, p)
 	first, second = f.expect("P12.1", inner, q)
 	if err != api.OK || outer != x || first != y || second != z || inner == lower || again == root {
 		t.Errorf("P12.1: Right: (%d p (%d q %d)), %d", outer, first, second, err)
 	}
-	if f.arena.Count(again) != 1 || f.arena.Count(inner) != 1 {
-		t.Errorf("P12.1: Right: the counts are %d and %d", f.arena.Count(again), f.arena.Count(inner))
+	if f.Arena.Count(again) != 1 || f.Arena.Count(inner) != 1 {
+		t.Errorf("P12.1: Right: the counts are %d and %d", f.Arena.Count(again), f.Arena.Count(inner))
 	}
 }
 
@@ -400,14 +373,14 @@ func TestSingleByHand(t *testing.T) {
 func TestDoubleByHand(t *testing.T) {
 	f := newFixture(t, 16)
 	x, y, z, w, p, q, r := leaves(f)
-	middle := f.make(y, q, z)
-	forLeft := f.make(x, p, f.make(middle, r, w))
-	forRight := f.make(f.make(x, p, middle), r, w)
+	middle := f.Make(y, q, z)
+	forLeft := f.Make(x, p, f.Make(middle, r, w))
+	forRight := f.Make(f.Make(x, p, middle), r, w)
 	for _, c := range []struct {
 		root uint32
 		call func(*arena.Arena, uint32) (uint32, api.Errno)
 	}{{forLeft, DoubleLeft}, {forRight, DoubleRight}} {
-		result, err := c.call(f.arena, c.root)
+		result, err := c.call(f.Arena, c.root)
 		left, right := f.expect("P12.2", result, q)
 		first, second := f.expect("P12.2", left, p)
 		third, fourth := f.expect("P12.2", right, r)
@@ -415,8 +388,8 @@ func TestDoubleByHand(t *testing.T) {
 			t.Errorf("P12.2: root %d: ((%d p %d) q (%d r %d)), %d", c.root, first, second, third, fourth, err)
 		}
 		for _, i := range []uint32{result, left, right} {
-			if slices.Contains(f.held, i) || f.arena.Count(i) != 1 {
-				t.Errorf("P12.2: root %d: slot %d is not new, or has the count %d", c.root, i, f.arena.Count(i))
+			if slices.Contains(f.Held, i) || f.Arena.Count(i) != 1 {
+				t.Errorf("P12.2: root %d: slot %d is not new, or has the count %d", c.root, i, f.Arena.Count(i))
 			}
 		}
 	}
@@ -425,26 +398,26 @@ func TestDoubleByHand(t *testing.T) {
 func TestExample(t *testing.T) {
 	f := newFixture(t, 4)
 	one, two := api.Entry{Key: 1, Value: 10}, api.Entry{Key: 2, Value: 20}
-	root := f.make(f.make(0, one, 0), two, 0)
-	got, err := Right(f.arena, root)
+	root := f.Make(f.Make(0, one, 0), two, 0)
+	got, err := Right(f.Arena, root)
 	left, right := f.expect("P12.1", got, one)
 	below, beside := f.expect("P12.1", right, two)
 	if err != api.OK || left != 0 || below != 0 || beside != 0 {
 		t.Errorf("P12.1: Right: (%d 1 (%d 2 %d)), %d", left, below, beside, err)
 	}
-	if got, err := Left(f.arena, root); got != 0 || err != api.ErrInvalid {
+	if got, err := Left(f.Arena, root); got != 0 || err != api.ErrInvalid {
 		t.Errorf("P12.3: Left: %d, %d", got, err)
 	}
 }
 
 // forms makes a root that has the forms of all functions: both sides of it have children on both sides.
-func forms(f *fixture) uint32 {
+func forms(f fixture) uint32 {
 	entries := entryLists(7)[0]
-	l, r := f.make(0, entries[0], 0), f.make(0, entries[2], 0)
-	left := f.make(l, entries[1], r)
-	l, r = f.make(0, entries[4], 0), f.make(0, entries[6], 0)
-	right := f.make(l, entries[5], r)
-	root := f.make(left, entries[3], right)
+	l, r := f.Make(0, entries[0], 0), f.Make(0, entries[2], 0)
+	left := f.Make(l, entries[1], r)
+	l, r = f.Make(0, entries[4], 0), f.Make(0, entries[6], 0)
+	right := f.Make(l, entries[5], r)
+	root := f.Make(left, entries[3], right)
 	f.keepOnly(root)
 	return root
 }
@@ -457,8 +430,8 @@ func TestFreeSlots(t *testing.T) {
 				f := newFixture(t, 20)
 				if used {
 					f.fill(0)
-					for len(f.held) > 0 {
-						f.release(f.held[len(f.held)/2])
+					for len(f.Held) > 0 {
+						f.Release(f.Held[len(f.Held)/2])
 					}
 				}
 				root := forms(f)
@@ -477,10 +450,10 @@ func TestInvalidComesFirst(t *testing.T) {
 	one, two, three := api.Entry{Key: 1}, api.Entry{Key: 2}, api.Entry{Key: 3}
 	for free := range 4 {
 		f := newFixture(t, 20)
-		leaf := f.make(0, one, 0)
-		toLeft, toRight := f.make(leaf, two, 0), f.make(0, two, leaf)
+		leaf := f.Make(0, one, 0)
+		toLeft, toRight := f.Make(leaf, two, 0), f.Make(0, two, leaf)
 		// None of these has the grandchild that a double rotation moves.
-		outerLeft, outerRight := f.make(toLeft, three, 0), f.make(0, three, toRight)
+		outerLeft, outerRight := f.Make(toLeft, three, 0), f.Make(0, three, toRight)
 		f.fill(free)
 		none := []uint32{0, 21, 22, math.MaxUint32}
 		if free > 0 {
@@ -496,11 +469,11 @@ func TestInvalidComesFirst(t *testing.T) {
 			{DoubleRight, []uint32{leaf, toLeft, toRight, outerLeft, outerRight}},
 		} {
 			for _, root := range append(c.roots, none...) {
-				before := f.arena.Dump()
-				if got, err := c.call(f.arena, root); got != 0 || err != api.ErrInvalid {
+				before := f.Arena.Dump()
+				if got, err := c.call(f.Arena, root); got != 0 || err != api.ErrInvalid {
 					t.Errorf("P12.3: root %d, %d free: %d, %d", root, free, got, err)
 				}
-				f.compareDumps(before, f.arena.Dump())
+				f.compareDumps(before, f.Arena.Dump())
 			}
 		}
 	}
@@ -511,7 +484,7 @@ func TestReleasedRoot(t *testing.T) {
 	for _, r := range rotations() {
 		f := newFixture(t, 12)
 		root := forms(f)
-		f.release(root)
+		f.Release(root)
 		if _, err := f.rotate(r, root); err != api.ErrInvalid {
 			t.Errorf("P12.3: %s of a released root: %d", r.name, err)
 		}
@@ -526,12 +499,12 @@ func TestResultStays(t *testing.T) {
 	for _, r := range rotations() {
 		f := newFixture(t, 12)
 		root := forms(f)
-		list := listing(f.arena.Dump(), root)
+		list := listing(f.Arena.Dump(), root)
 		got, _ := f.rotate(r, root)
-		f.release(root)
+		f.Release(root)
 		f.fill(0)
-		d := f.arena.Dump()
-		if now := listing(d, got); !slices.Equal(now, list) || len(audit.Check(d, f.held)) > 0 {
+		d := f.Arena.Dump()
+		if now := listing(d, got); !slices.Equal(now, list) || len(audit.Check(d, f.Held)) > 0 {
 			t.Errorf("P12.4: %s: %v, want %v", r.name, now, list)
 		}
 	}
@@ -544,8 +517,8 @@ func TestManyReferences(t *testing.T) {
 		root := forms(f)
 		for i := range uint32(root + 1) {
 			for range i {
-				f.arena.Retain(i)
-				f.held = append(f.held, i)
+				f.Arena.Retain(i)
+				f.Held = append(f.Held, i)
 			}
 		}
 		for range 4 {
@@ -559,10 +532,10 @@ func TestMaxSize(t *testing.T) {
 	f := newFixture(t, 36)
 	root := uint32(0)
 	for k := range int64(31) {
-		root = f.make(root, api.Entry{Key: k, Value: math.MaxInt64 - k}, root)
+		root = f.Make(root, api.Entry{Key: k, Value: math.MaxInt64 - k}, root)
 	}
-	if f.arena.Size(root) != api.MaxSize {
-		t.Fatalf("P5.2: Size %d", f.arena.Size(root))
+	if f.Arena.Size(root) != api.MaxSize {
+		t.Fatalf("P5.2: Size %d", f.Arena.Size(root))
 	}
 	f.rotateEverywhere()
 }
@@ -583,17 +556,17 @@ func TestChains(t *testing.T) {
 			if !toLeft(k) {
 				left, right = 0, root
 			}
-			root, _ = f.arena.Make(k, -k, left, right)
-			f.arena.Release(left)
-			f.arena.Release(right)
+			root, _ = f.Arena.Make(k, -k, left, right)
+			f.Arena.Release(left)
+			f.Arena.Release(right)
 		}
-		f.held = []uint32{root}
+		f.Held = []uint32{root}
 		done := 0
 		for _, r := range rotations() {
 			got, err := f.rotate(r, root)
 			if err == api.OK {
 				done++
-				f.release(got)
+				f.Release(got)
 			}
 		}
 		if want := []int{1, 1, 2}[number]; done != want {
@@ -602,37 +575,28 @@ func TestChains(t *testing.T) {
 	}
 }
 
-// generator returns a function whose results are from 0 to before n and follow no short rule.
-func generator(seed uint64) func(n int) int {
-	x := seed
-	return func(n int) int {
-		x = x*6364136223846793005 + 1442695040888963407
-		return int(x>>33) % n
-	}
-}
-
 // TestLongRuns mixes rotations with other calls, so that results are rotated again, slots are used again, and the arenas are often full.
 func TestLongRuns(t *testing.T) {
 	for _, capacity := range []int{4, 9, 25} {
-		next := generator(uint64(capacity))
+		next := treetest.Generator(uint64(capacity))
 		f := newFixture(t, capacity)
 		index := func() uint32 {
-			if len(f.held) == 0 || next(5) == 0 {
+			if len(f.Held) == 0 || next(5) == 0 {
 				return 0
 			}
-			return f.held[next(len(f.held))]
+			return f.Held[next(len(f.Held))]
 		}
 		done := map[string]int{}
 		for round := range 10000 {
 			switch kind := next(10); {
-			case kind < 3 && f.arena.Free() > 0:
+			case kind < 3 && f.Arena.Free() > 0:
 				left, right := index(), index()
 				// Trees that grow without end would have too many entries to be compared.
-				if f.arena.Size(left)+f.arena.Size(right) < 60 {
-					f.make(left, api.Entry{Key: int64(round), Value: int64(next(100) - 50)}, right)
+				if f.Arena.Size(left)+f.Arena.Size(right) < 60 {
+					f.Make(left, api.Entry{Key: int64(round), Value: int64(next(100) - 50)}, right)
 				}
-			case kind < 6 && len(f.held) > 0:
-				f.release(f.held[next(len(f.held))])
+			case kind < 6 && len(f.Held) > 0:
+				f.Release(f.Held[next(len(f.Held))])
 			default:
 				r := rotations()[next(4)]
 				if _, err := f.rotate(r, uint32(next(capacity+2))); err == api.OK {
@@ -650,42 +614,33 @@ func TestLongRuns(t *testing.T) {
 
 // TestSameCalls holds that the same calls on equal arenas have the same results, whatever happens in another arena.
 func TestSameCalls(t *testing.T) {
-	run := func(other *fixture) api.Dump {
+	other := newFixture(t, 50)
+	forms(other)
+	run := func(also bool) api.Dump {
 		f := newFixture(t, 30)
 		root := forms(f)
 		for round := range 10 {
 			f.rotate(rotations()[round%4], root)
-			if other != nil {
+			if also {
 				other.rotate(rotations()[round%3], 7)
 			}
 			if round%3 == 2 {
-				f.release(f.held[1])
+				f.Release(f.Held[1])
 			}
 		}
-		return f.arena.Dump()
+		return f.Arena.Dump()
 	}
-	other := newFixture(t, 50)
-	forms(other)
-	x, y := run(nil), run(other)
+	x, y := run(false), run(true)
 	if !slices.Equal(x.Slots, y.Slots) || !slices.Equal(x.Free, y.Free) {
 		t.Errorf("two runs differ: %v, %v", x, y)
 	}
 }
 
-// counts returns the reference counts of all slots.
-func counts(a *arena.Arena) []int {
-	var list []int
-	for _, s := range a.Dump().Slots {
-		list = append(list, s.Count)
-	}
-	return list
-}
-
 // TestReleasedTooOften has callers that release references that they do not hold, so that children are missing or nodes are in circles. The functions return nevertheless, and a failed one leaves all counts as they were.
 func TestReleasedTooOften(t *testing.T) {
 	const capacity = 7
-	next := generator(1)
-	a := newFixture(t, capacity).arena
+	next := treetest.Generator(1)
+	a := newFixture(t, capacity).Arena
 	for range 60000 {
 		if next(2) == 0 {
 			a.Make(int64(next(9)), 0, uint32(next(capacity+2)), uint32(next(capacity+2)))
@@ -693,13 +648,13 @@ func TestReleasedTooOften(t *testing.T) {
 			a.Release(uint32(next(capacity + 2)))
 		}
 		r := rotations()[next(4)]
-		before := counts(a)
+		before := treetest.Counts(a)
 		got, err := r.call(a, uint32(next(capacity+2)))
 		if (got != 0) != (err == api.OK) {
 			t.Fatalf("%s: %d, %d", r.name, got, err)
 		}
-		if err != api.OK && !slices.Equal(counts(a), before) {
-			t.Fatalf("%s: %d: the counts %v have become %v", r.name, err, before, counts(a))
+		if err != api.OK && !slices.Equal(treetest.Counts(a), before) {
+			t.Fatalf("%s: %d: the counts %v have become %v", r.name, err, before, treetest.Counts(a))
 		}
 		a.Release(got)
 	}
@@ -710,26 +665,26 @@ func TestOutdatedSizes(t *testing.T) {
 	f := newFixture(t, 40)
 	half := uint32(0)
 	for k := range int64(29) {
-		half = f.make(half, api.Entry{Key: k}, half)
+		half = f.Make(half, api.Entry{Key: k}, half)
 	}
-	x, q, w := f.make(0, api.Entry{}, 0), f.make(0, api.Entry{}, 0), f.make(0, api.Entry{}, 0)
-	forLeft := f.make(x, api.Entry{}, f.make(q, api.Entry{}, w))
-	forRight := f.make(f.make(x, api.Entry{}, q), api.Entry{}, w)
+	x, q, w := f.Make(0, api.Entry{}, 0), f.Make(0, api.Entry{}, 0), f.Make(0, api.Entry{}, 0)
+	forLeft := f.Make(x, api.Entry{}, f.Make(q, api.Entry{}, w))
+	forRight := f.Make(f.Make(x, api.Entry{}, q), api.Entry{}, w)
 	for _, i := range []uint32{w, x} {
-		for f.arena.Count(i) > 0 {
-			f.arena.Release(i)
+		for f.Arena.Count(i) > 0 {
+			f.Arena.Release(i)
 		}
 	}
-	if f.make(half, api.Entry{}, half) != x || f.make(half, api.Entry{}, half) != w {
+	if f.Make(half, api.Entry{}, half) != x || f.Make(half, api.Entry{}, half) != w {
 		t.Fatalf("P3.2: the slots %d and %d are not used again", x, w)
 	}
-	before := counts(f.arena)
+	before := treetest.Counts(f.Arena)
 	for _, call := range []func() (uint32, api.Errno){
-		func() (uint32, api.Errno) { return DoubleLeft(f.arena, forLeft) },
-		func() (uint32, api.Errno) { return DoubleRight(f.arena, forRight) },
+		func() (uint32, api.Errno) { return DoubleLeft(f.Arena, forLeft) },
+		func() (uint32, api.Errno) { return DoubleRight(f.Arena, forRight) },
 	} {
-		if got, err := call(); got != 0 || err != api.ErrInvalid || !slices.Equal(counts(f.arena), before) {
-			t.Errorf("%d, %d: the counts %v have become %v", got, err, before, counts(f.arena))
+		if got, err := call(); got != 0 || err != api.ErrInvalid || !slices.Equal(treetest.Counts(f.Arena), before) {
+			t.Errorf("%d, %d: the counts %v have become %v", got, err, before, treetest.Counts(f.Arena))
 		}
 	}
 }

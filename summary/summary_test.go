@@ -8,6 +8,7 @@ import (
 	"versionmap/api"
 	"versionmap/arena"
 	"versionmap/shape"
+	"versionmap/treetest"
 )
 
 // modelOf is P11.1. Unsigned integers are added modulo 2^64.
@@ -140,142 +141,14 @@ func (f fixture) compareSome(t *testing.T, next func(int) int) {
 	}
 }
 
-func newArena(t *testing.T, capacity int) *arena.Arena {
+// plant plants the tree in an arena and holds that it is one.
+func plant(t *testing.T, s *treetest.Tree, a *arena.Arena, entries []api.Entry) fixture {
 	t.Helper()
-	a, err := arena.New(capacity)
-	if err != api.OK {
-		t.Fatalf("P5.1: New(%d): %d", capacity, err)
-	}
-	return a
-}
-
-// makeNode makes a node and takes over the caller's references to its children.
-func makeNode(t *testing.T, a *arena.Arena, e api.Entry, left, right uint32) uint32 {
-	t.Helper()
-	i, err := a.Make(e.Key, e.Value, left, right)
-	if err != api.OK {
-		t.Fatalf("P5.2: Make(%v, %d, %d): %d", e, left, right, err)
-	}
-	a.Release(left)
-	a.Release(right)
-	return i
-}
-
-// tree is a tree without its entries; nil is the empty one.
-type tree struct {
-	left, right *tree
-	keys        int
-}
-
-func (s *tree) size() int {
-	if s == nil {
-		return 0
-	}
-	return s.keys
-}
-
-func node(left, right *tree) *tree {
-	return &tree{left, right, left.size() + 1 + right.size()}
-}
-
-// plant makes the tree with the entries in the order of an in-order traversal.
-func (s *tree) plant(t *testing.T, a *arena.Arena, entries []api.Entry) uint32 {
-	t.Helper()
-	if s == nil {
-		return 0
-	}
-	at := s.left.size()
-	left := s.left.plant(t, a, entries[:at])
-	right := s.right.plant(t, a, entries[at+1:])
-	return makeNode(t, a, entries[at], left, right)
-}
-
-// with plants the tree in an arena and holds that it is one.
-func (s *tree) with(t *testing.T, a *arena.Arena, entries []api.Entry) fixture {
-	t.Helper()
-	root := s.plant(t, a, entries)
+	root := s.Plant(t, a, entries)
 	if err := shape.Check(a, root); err != api.OK {
 		t.Fatalf("P7.3: %d", err)
 	}
 	return fixture{a, root, entries}
-}
-
-// allTrees returns all trees of n nodes that are balanced.
-func allTrees(n int) []*tree {
-	if n == 0 {
-		return []*tree{nil}
-	}
-	var all []*tree
-	for left := range n {
-		if !shape.Balanced(left, n-1-left) {
-			continue
-		}
-		for _, l := range allTrees(left) {
-			for _, r := range allTrees(n - 1 - left) {
-				all = append(all, node(l, r))
-			}
-		}
-	}
-	return all
-}
-
-// full returns the tree of n keys that is as low as possible.
-func full(n int) *tree {
-	if n == 0 {
-		return nil
-	}
-	return node(full(n/2), full(n-1-n/2))
-}
-
-// thinnest returns a tree of the least number of keys for its height. Its longest path turns as turns says, again and again, from the root downwards: true is left.
-func thinnest(height int, turns []bool) *tree {
-	if height == 0 {
-		return nil
-	}
-	high := thinnest(height-1, append(slices.Clone(turns[1:]), turns[0]))
-	low := full(shape.MinKeys(height) - 1 - shape.MinKeys(height-1))
-	if turns[0] {
-		return node(high, low)
-	}
-	return node(low, high)
-}
-
-// height returns the number of nodes on the longest path downwards.
-func (s *tree) height() int {
-	if s == nil {
-		return 0
-	}
-	return 1 + max(s.left.height(), s.right.height())
-}
-
-// deepest returns the position of the node at the end of the longest path, counted from 0.
-func (s *tree) deepest() int {
-	switch {
-	case s.height() == 1:
-		return 0
-	case s.left.height() > s.right.height():
-		return s.left.deepest()
-	}
-	return s.left.size() + 1 + s.right.deepest()
-}
-
-// random returns a tree of n keys in which each node is as far from the middle as next says, and balanced.
-func random(n int, next func(int) int) *tree {
-	if n == 0 {
-		return nil
-	}
-	least := (n + 4) / 4
-	left := least - 1 + next(n+1-2*least+1)
-	return node(random(left, next), random(n-1-left, next))
-}
-
-// generator returns a function whose results are from 0 to before n and follow no short rule.
-func generator() func(n int) int {
-	x := uint64(10)
-	return func(n int) int {
-		x = x*6364136223846793005 + 1442695040888963407
-		return int(x>>33) % n
-	}
 }
 
 // withKeys returns entries with these keys and values that next chooses: of both signs, of one sign, so few that many are equal, or so great that their sum wraps around.
@@ -326,8 +199,8 @@ func spaced(next func(int) int, n int) []api.Entry {
 }
 
 func TestExample(t *testing.T) {
-	a := newArena(t, 3)
-	root := full(3).plant(t, a, withValues(1, 10, 4, -3, 9, 5))
+	a := treetest.NewArena(t, 3)
+	root := treetest.Full(3).Plant(t, a, withValues(1, 10, 4, -3, 9, 5))
 	if got, want := Range(a, root, 2, 9), totals(2, 2, -3, 5); got != want {
 		t.Errorf("P11.3: Range(2, 9): %v, want %v", got, want)
 	}
@@ -404,7 +277,7 @@ func TestOf(t *testing.T) {
 }
 
 func TestOfLongLists(t *testing.T) {
-	next := generator()
+	next := treetest.Generator(10)
 	for _, n := range []int{100, 1000, 1<<16 - 1, 1 << 16, 1<<16 + 1, 200000} {
 		for range 10 {
 			entries := spaced(next, n)
@@ -478,9 +351,9 @@ func TestAddParts(t *testing.T) {
 
 // TestEmptyTree has the empty tree in an empty arena and in one with nodes.
 func TestEmptyTree(t *testing.T) {
-	a := newArena(t, 3)
+	a := treetest.NewArena(t, 3)
 	fixture{a, 0, nil}.compareAll(t)
-	full(3).plant(t, a, spaced(generator(), 3))
+	treetest.Full(3).Plant(t, a, spaced(treetest.Generator(10), 3))
 	fixture{a, 0, nil}.compareAll(t)
 	if got := Range(a, 0, math.MinInt64, math.MaxInt64); got != (api.Summary{}) {
 		t.Errorf("P11.3: Range of the empty tree: %v", got)
@@ -493,7 +366,7 @@ func TestEmptyTree(t *testing.T) {
 // byHand is a tree with the least and the greatest integer as keys.
 func byHand(t *testing.T) fixture {
 	t.Helper()
-	return full(5).with(t, newArena(t, 5), withValues(math.MinInt64, 4, -3, -6, 0, 1, 7, 9, math.MaxInt64, 2))
+	return plant(t, treetest.Full(5), treetest.NewArena(t, 5), withValues(math.MinInt64, 4, -3, -6, 0, 1, 7, 9, math.MaxInt64, 2))
 }
 
 // TestRangeByHand has summaries that were found without the model.
@@ -541,12 +414,12 @@ func TestPrefixByHand(t *testing.T) {
 // TestAllTrees has each balanced tree of up to nine nodes, with several lists of values.
 func TestAllTrees(t *testing.T) {
 	const most = 9
-	a := newArena(t, most)
-	next := generator()
+	a := treetest.NewArena(t, most)
+	next := treetest.Generator(10)
 	for n := range most + 1 {
-		for _, s := range allTrees(n) {
+		for _, s := range treetest.All(n) {
 			for range 8 {
-				f := s.with(t, a, spaced(next, n))
+				f := plant(t, s, a, spaced(next, n))
 				f.compareAll(t)
 				a.Release(f.root)
 			}
@@ -557,8 +430,8 @@ func TestAllTrees(t *testing.T) {
 // TestExtremeKeys has all trees whose keys are among some that are at the ends of the integers and around 0.
 func TestExtremeKeys(t *testing.T) {
 	keys := []int64{math.MinInt64, math.MinInt64 + 1, -1, 0, 1, math.MaxInt64 - 1, math.MaxInt64}
-	a := newArena(t, len(keys))
-	next := generator()
+	a := treetest.NewArena(t, len(keys))
+	next := treetest.Generator(10)
 	for set := range 1 << len(keys) {
 		var chosen []int64
 		for bit, key := range keys {
@@ -566,8 +439,8 @@ func TestExtremeKeys(t *testing.T) {
 				chosen = append(chosen, key)
 			}
 		}
-		for _, s := range allTrees(len(chosen)) {
-			f := s.with(t, a, withKeys(next, chosen...))
+		for _, s := range treetest.All(len(chosen)) {
+			f := plant(t, s, a, withKeys(next, chosen...))
 			f.comparePrefixes(t)
 			for _, lo := range keys {
 				for _, hi := range keys {
@@ -581,16 +454,16 @@ func TestExtremeKeys(t *testing.T) {
 
 // TestFarKeys has keys whose difference is greater than every integer, and keys that are equal modulo 2^32.
 func TestFarKeys(t *testing.T) {
-	a := newArena(t, 7)
-	next := generator()
+	a := treetest.NewArena(t, 7)
+	next := treetest.Generator(10)
 	for _, keys := range [][]int64{
 		{-3 << 61, -1 << 62, 1 << 62, 3 << 61},
 		{1, 1<<32 + 1, 1<<33 + 1, 1<<34 + 1},
 		{-1 << 33, -1 << 32, 0, 1 << 32, 1 << 33},
 		{math.MinInt32 - 1, math.MinInt32, math.MaxInt32, math.MaxInt32 + 1, math.MaxUint32, math.MaxUint32 + 1},
 	} {
-		for _, s := range allTrees(len(keys)) {
-			f := s.with(t, a, withKeys(next, keys...))
+		for _, s := range treetest.All(len(keys)) {
+			f := plant(t, s, a, withKeys(next, keys...))
 			f.compareAll(t)
 			a.Release(f.root)
 		}
@@ -601,8 +474,8 @@ func TestFarKeys(t *testing.T) {
 func TestValues(t *testing.T) {
 	values := []int64{math.MinInt64, -1, 0, 2, math.MaxInt64}
 	const n = 5
-	a := newArena(t, n)
-	shapes := allTrees(n)
+	a := treetest.NewArena(t, n)
+	shapes := treetest.All(n)
 	for list := range 5 * 5 * 5 * 5 * 5 {
 		entries := make([]api.Entry, n)
 		rest := list
@@ -610,7 +483,7 @@ func TestValues(t *testing.T) {
 			entries[i] = api.Entry{Key: int64(2 * i), Value: values[rest%5]}
 			rest /= 5
 		}
-		f := shapes[list%len(shapes)].with(t, a, entries)
+		f := plant(t, shapes[list%len(shapes)], a, entries)
 		f.compareAll(t)
 		a.Release(f.root)
 	}
@@ -618,8 +491,8 @@ func TestValues(t *testing.T) {
 
 // TestPositionsOutside has numbers of entries that would be in the tree if some of their bits were left out.
 func TestPositionsOutside(t *testing.T) {
-	next := generator()
-	f := random(6, next).with(t, newArena(t, 6), spaced(next, 6))
+	next := treetest.Generator(10)
+	f := plant(t, treetest.Random(6, next), treetest.NewArena(t, 6), spaced(next, 6))
 	for shift := range 64 {
 		for i := -7; i <= 7; i++ {
 			f.comparePrefix(t, i+1<<shift)
@@ -630,10 +503,10 @@ func TestPositionsOutside(t *testing.T) {
 
 // TestRandomTrees has larger trees of many shapes.
 func TestRandomTrees(t *testing.T) {
-	next := generator()
+	next := treetest.Generator(10)
 	for range 100 {
 		n := next(150)
-		f := random(n, next).with(t, newArena(t, 150), spaced(next, n))
+		f := plant(t, treetest.Random(n, next), treetest.NewArena(t, 150), spaced(next, n))
 		f.compareSome(t, next)
 	}
 }
@@ -650,8 +523,8 @@ func entriesOf(a *arena.Arena, i uint32) []api.Entry {
 
 // TestSubtrees has each subtree of a tree as a tree of its own: the keys above it do not count.
 func TestSubtrees(t *testing.T) {
-	next := generator()
-	f := random(60, next).with(t, newArena(t, 60), spaced(next, 60))
+	next := treetest.Generator(10)
+	f := plant(t, treetest.Random(60, next), treetest.NewArena(t, 60), spaced(next, 60))
 	for i := uint32(1); i <= 60; i++ {
 		sub := fixture{f.arena, i, entriesOf(f.arena, i)}
 		sub.compareSome(t, next)
@@ -663,9 +536,9 @@ func TestSubtrees(t *testing.T) {
 
 // TestVersions has trees that share subtrees, and of which some are released again.
 func TestVersions(t *testing.T) {
-	a := newArena(t, 40)
-	next := generator()
-	base := full(15).with(t, a, spaced(next, 15))
+	a := treetest.NewArena(t, 40)
+	next := treetest.Generator(10)
+	base := plant(t, treetest.Full(15), a, spaced(next, 15))
 	old, _ := a.Node(base.root)
 	var versions []fixture
 	for _, value := range []int64{5, math.MinInt64, math.MaxInt64, 0, -2000, 2000} {
@@ -677,7 +550,7 @@ func TestVersions(t *testing.T) {
 	}
 	a.Release(base.root)
 	a.Release(versions[0].root)
-	full(15).plant(t, a, spaced(next, 15))
+	treetest.Full(15).Plant(t, a, spaced(next, 15))
 	for _, f := range versions[1:] {
 		f.compareAll(t)
 	}
@@ -685,16 +558,16 @@ func TestVersions(t *testing.T) {
 
 // TestThinnestTrees has trees of all heights that an arena has room for, each as high as it can be, and the keys around the end of the longest path.
 func TestThinnestTrees(t *testing.T) {
-	a := newArena(t, api.MaxSlots)
-	next := generator()
+	a := treetest.NewArena(t, api.MaxSlots)
+	next := treetest.Generator(10)
 	for _, way := range [][]bool{{true}, {false}, {true, false}, {false, true}, {true, true, false}} {
 		for height := 1; shape.MinKeys(height) <= api.MaxSlots; height++ {
-			s := thinnest(height, way)
-			f := s.with(t, a, spaced(next, s.size()))
-			if s.height() != height {
-				t.Fatalf("height %d, want %d", s.height(), height)
+			s := treetest.Thinnest(height, way)
+			f := plant(t, s, a, spaced(next, s.Size()))
+			if s.Height() != height {
+				t.Fatalf("height %d, want %d", s.Height(), height)
 			}
-			deep := s.deepest()
+			deep := s.Deepest()
 			for i := deep - 1; i <= deep+2; i++ {
 				f.comparePrefix(t, i)
 				key := f.entries[deep].Key + int64(i-deep)
@@ -711,7 +584,7 @@ func TestThinnestTrees(t *testing.T) {
 
 // TestFullArena has a tree that uses every slot: more keys than 16 bits can count.
 func TestFullArena(t *testing.T) {
-	f := full(api.MaxSlots).with(t, newArena(t, api.MaxSlots), spaced(generator(), api.MaxSlots))
+	f := plant(t, treetest.Full(api.MaxSlots), treetest.NewArena(t, api.MaxSlots), spaced(treetest.Generator(10), api.MaxSlots))
 	if f.arena.Free() != 0 {
 		t.Fatalf("P5.2: %d free", f.arena.Free())
 	}
@@ -737,9 +610,9 @@ func TestFullArena(t *testing.T) {
 
 // TestTwoArenas has the same indexes in two arenas, in turn.
 func TestTwoArenas(t *testing.T) {
-	next := generator()
-	f := full(9).with(t, newArena(t, 9), spaced(next, 9))
-	g := full(9).with(t, newArena(t, 20), withKeys(next, -50, -30, 2, 3, 4, 5, 6, 7, 80))
+	next := treetest.Generator(10)
+	f := plant(t, treetest.Full(9), treetest.NewArena(t, 9), spaced(next, 9))
+	g := plant(t, treetest.Full(9), treetest.NewArena(t, 20), withKeys(next, -50, -30, 2, 3, 4, 5, 6, 7, 80))
 	if f.root != g.root {
 		t.Fatalf("roots %d and %d", f.root, g.root)
 	}
@@ -775,10 +648,10 @@ func unchanged(t *testing.T, a *arena.Arena, calls func()) {
 }
 
 func TestNothingChanges(t *testing.T) {
-	a := newArena(t, 40)
-	next := generator()
-	f := full(20).with(t, a, spaced(next, 20))
-	a.Release(full(10).plant(t, a, spaced(next, 10)))
+	a := treetest.NewArena(t, 40)
+	next := treetest.Generator(10)
+	f := plant(t, treetest.Full(20), a, spaced(next, 20))
+	a.Release(treetest.Full(10).Plant(t, a, spaced(next, 10)))
 	unchanged(t, a, func() {
 		for range 2 {
 			f.compareAll(t)
@@ -793,8 +666,8 @@ func TestNothingChanges(t *testing.T) {
 func TestRootInvalid(t *testing.T) {
 	const capacity = 4
 	for allocated := range capacity + 1 {
-		a := newArena(t, capacity)
-		full(allocated).plant(t, a, spaced(generator(), allocated))
+		a := treetest.NewArena(t, capacity)
+		treetest.Full(allocated).Plant(t, a, spaced(treetest.Generator(10), allocated))
 		unchanged(t, a, func() {
 			for _, i := range []uint32{1, 2, 3, 4, 5, 6, api.MaxSlots, api.MaxSlots + 1, 1<<17 + 1, 1 << 31, 1<<31 + 1, math.MaxUint32 - 1, math.MaxUint32} {
 				for _, key := range []int64{math.MinInt64, -3, -1, 0, 1, math.MaxInt64} {
@@ -807,11 +680,11 @@ func TestRootInvalid(t *testing.T) {
 
 // TestReleasedRoot holds that a slot that was released is a tree again as soon as it is allocated again, and then the new one.
 func TestReleasedRoot(t *testing.T) {
-	a := newArena(t, 3)
-	next := generator()
+	a := treetest.NewArena(t, 3)
+	next := treetest.Generator(10)
 	for n := range 9 {
 		entries := withKeys(next, int64(n), int64(2*n+1), 30)[:1+n%3]
-		f := full(len(entries)).with(t, a, entries)
+		f := plant(t, treetest.Full(len(entries)), a, entries)
 		f.compareAll(t)
 		a.Release(f.root)
 		callAll(a, f.root, 0)
@@ -822,21 +695,21 @@ func TestReleasedRoot(t *testing.T) {
 func TestNoTree(t *testing.T) {
 	for _, step := range []int64{-1, 0, 1} {
 		for _, left := range []bool{true, false} {
-			a := newArena(t, api.MaxSlots)
+			a := treetest.NewArena(t, api.MaxSlots)
 			root := uint32(0)
 			for k := range int64(api.MaxSlots) {
 				e := api.Entry{Key: step * k}
 				if left {
-					root = makeNode(t, a, e, root, 0)
+					root = treetest.MakeNode(t, a, root, e, 0)
 				} else {
-					root = makeNode(t, a, e, 0, root)
+					root = treetest.MakeNode(t, a, 0, e, root)
 				}
 			}
 			for _, key := range []int64{math.MinInt64, -1000, -1, 0, 1000, math.MaxInt64} {
 				callAll(a, root, key)
 			}
 		}
-		a := newArena(t, 31)
+		a := treetest.NewArena(t, 31)
 		root := uint32(0)
 		for k := range int64(31) {
 			root, _ = a.Make(step*k, 0, root, root)
@@ -850,7 +723,7 @@ func TestNoTree(t *testing.T) {
 // TestCircles has circles and children that are not allocated. A caller makes them that releases references that it does not hold. The functions return nevertheless.
 func TestCircles(t *testing.T) {
 	for _, left := range []bool{true, false} {
-		a := newArena(t, 3)
+		a := treetest.NewArena(t, 3)
 		child := func(i uint32) (uint32, uint32) {
 			if left {
 				return i, 0
@@ -880,8 +753,8 @@ func TestCircles(t *testing.T) {
 // TestReleasedTooOften has callers that release references that they do not hold.
 func TestReleasedTooOften(t *testing.T) {
 	const capacity = 5
-	a := newArena(t, capacity)
-	next := generator()
+	a := treetest.NewArena(t, capacity)
+	next := treetest.Generator(10)
 	for range 20000 {
 		i, j := uint32(next(capacity+2)), uint32(next(capacity+2))
 		if next(2) == 0 {
