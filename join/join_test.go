@@ -34,12 +34,8 @@ func newPair(t *testing.T, l, r *treetest.Tree) pair {
 // both joins and concatenates the trees.
 func (p pair) both() {
 	p.T.Helper()
-	if got, err := p.join(p.left, p.middle, p.right); err == api.OK {
-		p.Release(got)
-	}
-	if got, err := p.concat(p.left, p.right); err == api.OK {
-		p.Release(got)
-	}
+	p.Discard(p.join(p.left, p.middle, p.right))
+	p.Discard(p.concat(p.left, p.right))
 }
 
 // errors has the wrong order, for which there are enough slots at first, and then one slot too few.
@@ -134,9 +130,7 @@ func TestOrder(t *testing.T) {
 		left, right := f.Plant(treetest.Full(n), entries[:n]), f.Plant(treetest.Full(m), entries[n+1:n+1+m])
 		for _, e := range entries {
 			for d := int64(-1); d <= 1; d++ {
-				if got, err := f.join(left, api.Entry{Key: e.Key + d, Value: 4}, right); err == api.OK {
-					f.Release(got)
-				}
+				f.Discard(f.join(left, api.Entry{Key: e.Key + d, Value: 4}, right))
 			}
 		}
 	}
@@ -162,21 +156,14 @@ func TestOneWrongKey(t *testing.T) {
 
 // TestExtremeKeys has all trees whose keys are among some at the ends of the integers and around 0.
 func TestExtremeKeys(t *testing.T) {
-	keys := []int64{math.MinInt64, math.MinInt64 + 1, -1, 0, 1, math.MaxInt64 - 1, math.MaxInt64}
-	for set := range 1 << len(keys) {
-		var entries []api.Entry
-		for bit, key := range keys {
-			if set>>bit&1 == 1 {
-				entries = append(entries, api.Entry{Key: key, Value: keys[(bit+3)%len(keys)]})
-			}
-		}
+	for _, entries := range treetest.ExtremeLists() {
 		for at := range len(entries) + 1 {
 			f := newFixture(t, 200)
 			left := f.Plant(treetest.Full(at), entries[:at])
 			right := f.Plant(treetest.Full(len(entries)-at), entries[at:])
 			f.concat(right, left)
 			both, _ := f.concat(left, right)
-			for _, key := range keys {
+			for _, key := range treetest.Extremes() {
 				f.join(left, api.Entry{Key: key, Value: math.MinInt64}, right)
 				f.split(both, key)
 			}
@@ -200,16 +187,12 @@ func TestFreeSlots(t *testing.T) {
 			if (err == api.OK) != (free == c.required) {
 				t.Errorf("P13.1: %d and %d keys, %d free: %d", c.l, c.r, free, err)
 			}
-			if err == api.OK {
-				p.Release(got)
-			}
+			p.Discard(got, err)
 			both, err := p.concat(p.left, p.right)
 			if (err == api.OK) != (free == c.required || c.l == 0 || c.r == 0) {
 				t.Errorf("P13.2: %d and %d keys, %d free: %d", c.l, c.r, free, err)
 			}
-			if err == api.OK {
-				p.Release(both)
-			}
+			p.Discard(both, err)
 		}
 	}
 }

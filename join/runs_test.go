@@ -85,11 +85,10 @@ func (f fixture) callAndRelease(left, right uint32, key int64) {
 }
 
 func TestInvalidIndexes(t *testing.T) {
-	invalid := []uint32{61, 200, 201, api.MaxSlots, api.MaxSlots + 1, 1<<17 + 1, 1 << 31, 1<<31 + 1, math.MaxUint32}
 	for _, n := range []int{0, 1, 7, 60} {
 		f := newFixture(t, 200)
 		root := f.Plant(treetest.Full(n), treetest.Spaced(n))
-		for _, i := range invalid {
+		for _, i := range treetest.NoIndexes() {
 			for _, key := range []int64{math.MinInt64, -5, 0, 1000, math.MaxInt64} {
 				f.callAndRelease(i, root, key)
 				f.callAndRelease(root, i, key)
@@ -101,55 +100,47 @@ func TestInvalidIndexes(t *testing.T) {
 	}
 }
 
-// TestChains has trees that are as high as they have nodes.
-func TestChains(t *testing.T) {
-	for _, nodes := range []int{20, 500, 30000} {
-		for _, left := range []func(int) bool{
-			func(int) bool { return true },
-			func(int) bool { return false },
-			func(k int) bool { return k%2 == 0 },
-		} {
-			f := newFixture(t, 2*nodes+2000)
-			root := f.Chain(nodes, left)
-			small := f.Plant(treetest.Full(1), []api.Entry{{Key: 1 << 40}})
-			least := f.Plant(treetest.Full(2), []api.Entry{{Key: -1 << 40}, {Key: -1 << 39}})
-			for _, key := range []int64{1, 7, -9, int64(nodes), 1 << 38, -1 << 38} {
-				f.callAndRelease(root, small, key)
-				f.callAndRelease(least, root, key)
-			}
-			f.callAndRelease(root, root, 3)
-			// A tree would need no more slots than this. A chain needs more, so that calls fail on any level.
-			for free := 450; free > 250; free -= 1 + nodes/600 {
-				f.Leave(free)
-				f.callAndRelease(root, small, int64(nodes/2))
-				f.callAndRelease(root, small, int64(-nodes/2))
-				f.callAndRelease(least, root, 0)
-			}
-		}
+// besides plants a tree with lesser keys than n entries have, and one with greater keys.
+func besides(f *treetest.Fixture, n int) (uint32, uint32) {
+	before, after := treetest.Spaced(n), treetest.Spaced(n)
+	for i := range n {
+		before[i].Key -= 1 << 40
+		after[i].Key += 1 << 40
 	}
+	return f.Plant(treetest.Full(n), before), f.Plant(treetest.Full(n), after)
 }
 
-// TestSharedSubtrees has nodes that are both children of the next one, up to 2^31 - 1 entries, with keys in all orders.
-func TestSharedSubtrees(t *testing.T) {
-	for _, step := range []int64{-1, 0, 1} {
-		f := newFixture(t, 700)
-		small := f.Plant(treetest.Full(2), []api.Entry{{Key: 100}, {Key: 200}})
-		least := f.Plant(treetest.Full(2), []api.Entry{{Key: -200}, {Key: -100}})
-		root := uint32(0)
-		for k := range int64(31) {
-			root = f.Make(root, api.Entry{Key: step * k, Value: math.MaxInt64}, root)
-			for _, key := range []int64{-50, -15, 0, 15, 50} {
-				f.callAndRelease(root, small, key)
-				f.callAndRelease(least, root, key)
-				f.callAndRelease(root, root, key)
-			}
-		}
-		f.Leave(3)
-		for _, key := range []int64{-50, 0, 50} {
+// TestChains has trees that are as high as they have nodes.
+func TestChains(t *testing.T) {
+	treetest.Chains(t, func(in *treetest.Fixture, root uint32, nodes int) {
+		f, n := fixture{in}, int64(nodes)
+		least, small := besides(in, 2)
+		for _, key := range []int64{1, 7, -9, n, 1 << 38, -1 << 38} {
 			f.callAndRelease(root, small, key)
 			f.callAndRelease(least, root, key)
 		}
-	}
+		f.callAndRelease(root, root, 3)
+		// A tree would need no more slots than this. A chain needs more, so that calls fail on any level.
+		for free := 450; free > 250; free -= 1 + nodes/600 {
+			f.Leave(free)
+			f.callAndRelease(root, small, n/2)
+			f.callAndRelease(root, small, -n/2)
+			f.callAndRelease(least, root, 0)
+		}
+	})
+}
+
+func TestDoubledTrees(t *testing.T) {
+	treetest.Doubled(t, func(in *treetest.Fixture, root uint32) {
+		f := fixture{in}
+		least, small := besides(in, 2)
+		for _, key := range []int64{-50, -15, 0, 15, 50} {
+			f.callAndRelease(root, small, key)
+			f.callAndRelease(least, root, key)
+			f.callAndRelease(root, root, key)
+		}
+		f.Release(least, small)
+	})
 }
 
 // callAndCount is for arenas in which children are missing or nodes are in circles.
@@ -160,25 +151,17 @@ func callAndCount(t *testing.T, a *arena.Arena, left, right uint32, key int64) {
 
 // TestCircles holds that the functions return for circles, too, with trees that are lighter and heavier.
 func TestCircles(t *testing.T) {
-	for _, sides := range [][2]bool{{true, true}, {false, false}, {true, false}, {false, true}} {
-		f := newFixture(t, 3000)
-		upper, lower := f.Circle(sides[0], sides[1])
+	treetest.Circles(t, func(f *treetest.Fixture, root uint32) {
 		for _, n := range []int{0, 1, 5, 40, 500} {
-			before, after := treetest.Spaced(n), treetest.Spaced(n)
-			for i := range n {
-				before[i].Key -= 10000
-				after[i].Key += 10000
+			left, right := besides(f, n)
+			for _, key := range []int64{-5000, 1, 2, 3, 4, 5, 5000} {
+				callAndCount(t, f.Arena, root, right, key)
+				callAndCount(t, f.Arena, left, root, key)
+				callAndCount(t, f.Arena, root, root, key)
 			}
-			left, right := f.Plant(treetest.Full(n), before), f.Plant(treetest.Full(n), after)
-			for _, root := range []uint32{upper, lower} {
-				for _, key := range []int64{-5000, 1, 2, 3, 4, 5, 5000} {
-					callAndCount(t, f.Arena, root, right, key)
-					callAndCount(t, f.Arena, left, root, key)
-					callAndCount(t, f.Arena, root, root, key)
-				}
-			}
+			f.Release(left, right)
 		}
-	}
+	})
 }
 
 // TestMissingChild has a child that is not allocated, below a root that Split finds.

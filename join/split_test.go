@@ -63,10 +63,7 @@ func TestSplitHighTrees(t *testing.T) {
 		at := s.Deepest()
 		splitAll(t, s, []int{at, s.Size() / 2})
 	}
-	n := api.MaxSlots
-	for n+reserve.Split(n) > api.MaxSlots {
-		n--
-	}
+	n := treetest.Largest(reserve.Split)
 	splitAll(t, treetest.Full(n), treetest.Some(n, 3))
 }
 

@@ -1,6 +1,7 @@
 package treetest
 
 import (
+	"math"
 	"slices"
 
 	"versionmap/api"
@@ -9,6 +10,52 @@ import (
 )
 
 // The functions of this file make indexes that are no trees. Of calls with these, the document says only that they return.
+
+// NoIndexes returns numbers that are no indexes of an empty arena.
+func NoIndexes() []uint32 {
+	return []uint32{1, 2, 61, 200, 201, api.MaxSlots, api.MaxSlots + 1, 1<<17 + 1, 1 << 31, 1<<31 + 1, math.MaxUint32}
+}
+
+// Chains visits chains of several lengths, which turn left, right, or both ways. Beside each, more slots are free than it has nodes.
+func Chains(t T, visit func(f *Fixture, root uint32, nodes int)) {
+	t.Helper()
+	for _, nodes := range []int{20, 500, 30000} {
+		for _, left := range []func(int) bool{
+			func(int) bool { return true },
+			func(int) bool { return false },
+			func(k int) bool { return k%2 == 0 },
+		} {
+			f := New(t, 2*nodes+2000)
+			visit(f, f.Chain(nodes, left), nodes)
+		}
+	}
+}
+
+// Doubled visits nodes that are both children of the next one, up to 2^31 - 1 entries, with keys in all orders. The last one is visited again with few free slots.
+func Doubled(t T, visit func(f *Fixture, root uint32)) {
+	t.Helper()
+	for _, step := range []int64{-1, 0, 1} {
+		f := New(t, 700)
+		root := uint32(0)
+		for k := range int64(31) {
+			root = f.Make(root, api.Entry{Key: step * k, Value: math.MaxInt64}, root)
+			visit(f, root)
+		}
+		f.Leave(9)
+		visit(f, root)
+	}
+}
+
+// Circles visits the nodes of circles on all sides, in arenas with 3000 slots.
+func Circles(t T, visit func(f *Fixture, root uint32)) {
+	t.Helper()
+	for _, sides := range [][2]bool{{true, true}, {false, false}, {true, false}, {false, true}} {
+		f := New(t, 3000)
+		upper, lower := f.Circle(sides[0], sides[1])
+		visit(f, upper)
+		visit(f, lower)
+	}
+}
 
 // Chain makes a path of nodes that turns as left says, from below, and keeps a reference to its upper end. Its keys are those of a search tree, although it is not balanced.
 func (f *Fixture) Chain(nodes int, left func(int) bool) uint32 {

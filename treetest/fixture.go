@@ -49,6 +49,13 @@ func New(t T, capacity int) *Fixture {
 	return &Fixture{t, NewArena(t, capacity), nil}
 }
 
+// PlantWith returns a fixture with a tree and so many free slots.
+func PlantWith(t T, s *Tree, entries []api.Entry, free int) (*Fixture, uint32) {
+	t.Helper()
+	f := New(t, max(1, s.Size()+free))
+	return f, f.Plant(s, entries)
+}
+
 // Make makes a node and keeps the reference to it.
 func (f *Fixture) Make(left uint32, e api.Entry, right uint32) uint32 {
 	f.T.Helper()
@@ -82,6 +89,14 @@ func (f *Fixture) Release(indexes ...uint32) {
 		}
 		f.Held = slices.Delete(f.Held, at, at+1)
 		f.Arena.Release(i)
+	}
+}
+
+// Discard gives the reference to a result back, if the call succeeded.
+func (f *Fixture) Discard(result uint32, err api.Errno) {
+	f.T.Helper()
+	if err == api.OK {
+		f.Release(result)
 	}
 }
 
@@ -130,11 +145,17 @@ func (f *Fixture) Watch(name string, run func()) Call {
 	return Call{name, before, f.Arena.Dump(), f.Arena.Reads() - reads}
 }
 
-// Failed holds that a call had no effect.
+// Failed holds that a call that returned an error had no effect.
 func (f *Fixture) Failed(c Call) {
 	f.T.Helper()
+	f.Unchanged("rule 5", c)
+}
+
+// Unchanged holds that a call left the arena as it was.
+func (f *Fixture) Unchanged(promise string, c Call) {
+	f.T.Helper()
 	if !slices.Equal(c.Before.Slots, c.After.Slots) || !slices.Equal(c.Before.Free, c.After.Free) {
-		f.T.Fatalf("rule 5: %s failed and changed the arena: %v, %v", c.Name, c.Before, c.After)
+		f.T.Fatalf("%s: %s changed the arena: %v, %v", promise, c.Name, c.Before, c.After)
 	}
 }
 

@@ -2,6 +2,7 @@
 package treetest
 
 import (
+	"math"
 	"slices"
 
 	"versionmap/api"
@@ -189,4 +190,34 @@ func Spaced(n int) []api.Entry {
 		entries[i] = api.Entry{Key: key, Value: 1000 - 7*key}
 	}
 	return entries
+}
+
+// Extremes returns keys at the ends of the integers and around 0.
+func Extremes() []int64 {
+	return []int64{math.MinInt64, math.MinInt64 + 1, -1, 0, 1, math.MaxInt64 - 1, math.MaxInt64}
+}
+
+// ExtremeLists returns all lists of entries whose keys are some of the extremes, in ascending order. Their values are extreme, too.
+func ExtremeLists() [][]api.Entry {
+	keys := Extremes()
+	var lists [][]api.Entry
+	for set := range 1 << len(keys) {
+		var entries []api.Entry
+		for bit, key := range keys {
+			if set>>bit&1 == 1 {
+				entries = append(entries, api.Entry{Key: key, Value: keys[(bit+3)%len(keys)]})
+			}
+		}
+		lists = append(lists, entries)
+	}
+	return lists
+}
+
+// Largest returns the greatest number of keys of a tree beside which an arena has as many free slots as required says.
+func Largest(required func(keys int) int) int {
+	n := api.MaxSlots
+	for n+required(n) > api.MaxSlots {
+		n--
+	}
+	return n
 }

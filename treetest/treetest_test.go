@@ -78,6 +78,53 @@ func TestSome(t *testing.T) {
 	}
 }
 
+func TestExtremeLists(t *testing.T) {
+	lists := ExtremeLists()
+	for _, list := range lists {
+		check(t, Full(len(list)))
+		f, root := PlantWith(t, Full(len(list)), list, 3)
+		if err := shape.Check(f.Arena, root); err != api.OK || f.Arena.Free() != 3 {
+			t.Errorf("P7.3: %v: %d, %d free", list, err, f.Arena.Free())
+		}
+	}
+	if len(lists) != 128 || len(lists[0]) != 0 || len(lists[127]) != 7 {
+		t.Errorf("%v", lists)
+	}
+}
+
+func TestLargest(t *testing.T) {
+	if n := Largest(func(keys int) int { return keys / 3 }); n != 49152 {
+		t.Errorf("%d and %d are more than %d, or too few", n, n/3, api.MaxSlots)
+	}
+}
+
+// TestVisits holds that indexes that are no trees are visited, and that no call fails on the way.
+func TestVisits(t *testing.T) {
+	for _, i := range NoIndexes() {
+		if NewArena(t, 200).Size(i) != 0 || i == 0 {
+			t.Errorf("%d is an index", i)
+		}
+	}
+	visits := 0
+	visit := func(f *Fixture, root uint32) {
+		visits++
+		if f.Arena.Size(root) == 0 {
+			t.Errorf("%d is no index", root)
+		}
+	}
+	Chains(t, func(f *Fixture, root uint32, nodes int) {
+		visit(f, root)
+		if s, _ := shape.Measure(f.Arena, root); s.Keys != 0 || f.Arena.Size(root) != nodes || f.Arena.Free() <= nodes {
+			t.Errorf("%d nodes, want %d, %d free", f.Arena.Size(root), nodes, f.Arena.Free())
+		}
+	})
+	Doubled(t, visit)
+	Circles(t, visit)
+	if want := 9 + 3*32 + 8; visits != want {
+		t.Errorf("%d visits, want %d", visits, want)
+	}
+}
+
 // alarm is a T that keeps its first message and goes no further.
 type alarm struct {
 	message string
@@ -121,6 +168,7 @@ func TestAlarms(t *testing.T) {
 	alarmed(t, "rule 5", func(f *Fixture) { f.Failed(f.Watch("", func() { leaf(f.Arena) })) })
 	alarmed(t, "rule 5", func(f *Fixture) { f.Failed(f.Watch("", func() { f.Arena.Retain(3) })) })
 	alarmed(t, "rule 5", func(f *Fixture) { f.Failed(f.Watch("", func() { f.Arena.Release(leaf(f.Arena)) })) })
+	alarmed(t, "P1.1", func(f *Fixture) { f.Unchanged("P1.1", f.Watch("", func() { leaf(f.Arena) })) })
 	alarmed(t, "P1.1", func(f *Fixture) { f.Returned("P1.1", f.Watch("", func() {}), 20, nil) })
 	alarmed(t, "P1.1", func(f *Fixture) { f.Returned("P1.1", f.Watch("", func() {}), 3, Spaced(4)) })
 	alarmed(t, "P1.1", func(f *Fixture) { f.Itself("P1.1", f.Watch("", func() {}), 2, 3) })
@@ -179,7 +227,10 @@ func TestPassing(t *testing.T) {
 	f.Returned("P1.1", c, root, Spaced(3))
 	f.Effects("P1.1", c)
 	f.Failed(f.Watch("", func() { f.Arena.Node(root) }))
+	f.Unchanged("P1.1", f.Watch("", func() { f.Arena.Size(root) }))
 	f.Limits("P1.1", f.Watch("", func() { f.Arena.Node(root) }), 1, 0)
+	f.Discard(f.Make(0, api.Entry{}, 0), api.OK)
+	f.Discard(0, api.ErrFull)
 	f.Release(f.Held...)
 	upper, lower := f.Circle(true, false)
 	if u, _ := f.Arena.Node(upper); u.Left != lower {

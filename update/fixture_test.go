@@ -19,6 +19,13 @@ func newFixture(t *testing.T, capacity int) fixture {
 	return fixture{treetest.New(t, capacity)}
 }
 
+// plantWith plants a tree in an arena with so many free slots.
+func plantWith(t *testing.T, s *treetest.Tree, entries []api.Entry, free int) (fixture, uint32) {
+	t.Helper()
+	f, root := treetest.PlantWith(t, s, entries, free)
+	return fixture{f}, root
+}
+
 // valueOf returns the value of a key in a list, or false if it is not there.
 func valueOf(list []api.Entry, key int64) (int64, bool) {
 	for _, e := range list {

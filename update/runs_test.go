@@ -168,7 +168,7 @@ func (f fixture) callAndRelease(root uint32, key int64) {
 func TestInvalidIndexes(t *testing.T) {
 	for _, capacity := range []int{1, 11, 200} {
 		f := newFixture(t, capacity)
-		for _, i := range []uint32{1, 2, 200, 201, api.MaxSlots, api.MaxSlots + 1, 1<<17 + 1, 1 << 31, 1<<31 + 1, math.MaxUint32} {
+		for _, i := range treetest.NoIndexes() {
 			for _, key := range []int64{math.MinInt64, -5, 0, 1000, math.MaxInt64} {
 				callAndCount(t, f.Arena, i, key)
 				if got, value, err := Delete(f.Arena, i, key); got != 0 || value != 0 || err != api.ErrNotFound {
@@ -190,44 +190,26 @@ func TestReleasedRoot(t *testing.T) {
 
 // TestChains has trees that are as high as they have nodes.
 func TestChains(t *testing.T) {
-	for _, nodes := range []int{20, 500, 30000} {
-		for _, left := range []func(int) bool{
-			func(int) bool { return true },
-			func(int) bool { return false },
-			func(k int) bool { return k%2 == 0 },
-		} {
-			f := newFixture(t, 2*nodes+2000)
-			root := f.Chain(nodes, left)
-			keys := []int64{0, 1, 2, 7, -9, -2, int64(nodes), int64(-nodes), 1 << 40, -1 << 40}
-			for _, key := range keys {
-				f.callAndRelease(root, key)
-			}
-			// A tree would need no more slots than this. A chain needs more, so that calls fail on any level.
-			for free := 450; free > 120; free -= 1 + nodes/600 {
-				f.Leave(free)
-				f.callAndRelease(root, int64(nodes/2))
-				f.callAndRelease(root, int64(-nodes/2))
-			}
-		}
-	}
-}
-
-// TestSharedSubtrees has nodes that are both children of the next one, up to 2^31 - 1 entries, with keys in all orders.
-func TestSharedSubtrees(t *testing.T) {
-	for _, step := range []int64{-1, 0, 1} {
-		f := newFixture(t, 700)
-		root := uint32(0)
-		for k := range int64(31) {
-			root = f.Make(root, api.Entry{Key: step * k, Value: math.MaxInt64}, root)
-			for _, key := range []int64{-50, -15, -1, 0, 1, 15, 50} {
-				f.callAndRelease(root, key)
-			}
-		}
-		f.Leave(3)
-		for _, key := range []int64{-50, 0, 50} {
+	treetest.Chains(t, func(in *treetest.Fixture, root uint32, nodes int) {
+		f, n := fixture{in}, int64(nodes)
+		for _, key := range []int64{0, 1, 2, 7, -9, -2, n, -n, 1 << 40, -1 << 40} {
 			f.callAndRelease(root, key)
 		}
-	}
+		// A tree would need no more slots than this. A chain needs more, so that calls fail on any level.
+		for free := 450; free > 120; free -= 1 + nodes/600 {
+			f.Leave(free)
+			f.callAndRelease(root, n/2)
+			f.callAndRelease(root, -n/2)
+		}
+	})
+}
+
+func TestDoubledTrees(t *testing.T) {
+	treetest.Doubled(t, func(in *treetest.Fixture, root uint32) {
+		for _, key := range []int64{-50, -15, -1, 0, 1, 15, 50} {
+			fixture{in}.callAndRelease(root, key)
+		}
+	})
 }
 
 // callAndCount is for indexes of slots that are free, and for arenas in which children are missing or nodes are in circles.
@@ -238,18 +220,14 @@ func callAndCount(t *testing.T, a *arena.Arena, root uint32, key int64) {
 
 // TestCircles holds that the functions return for circles, too, with few free slots and with many.
 func TestCircles(t *testing.T) {
-	for _, sides := range [][2]bool{{true, true}, {false, false}, {true, false}, {false, true}} {
-		f := newFixture(t, 3000)
-		upper, lower := f.Circle(sides[0], sides[1])
+	treetest.Circles(t, func(f *treetest.Fixture, root uint32) {
 		for _, free := range []int{2900, 60, 20, 1} {
 			f.Leave(free)
-			for _, root := range []uint32{upper, lower} {
-				for _, key := range []int64{math.MinInt64, -15, 0, 1, 2, 3, 4, 5, 12, 13, math.MaxInt64} {
-					callAndCount(t, f.Arena, root, key)
-				}
+			for _, key := range []int64{math.MinInt64, -15, 0, 1, 2, 3, 4, 5, 12, 13, math.MaxInt64} {
+				callAndCount(t, f.Arena, root, key)
 			}
 		}
-	}
+	})
 }
 
 // TestReleasedTooOften has callers that release references that they do not hold. One of the arenas has enough slots for all calls.

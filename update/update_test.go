@@ -11,38 +11,23 @@ import (
 	"versionmap/treetest"
 )
 
-// plantWith plants a tree in an arena with so many free slots.
-func plantWith(t *testing.T, s *treetest.Tree, entries []api.Entry, free int) (fixture, uint32) {
-	t.Helper()
-	f := newFixture(t, s.Size()+free)
-	return f, f.Plant(s, entries)
-}
-
-// dropping releases the result of a call that succeeded.
-func (f fixture) dropping(result uint32, err api.Errno) {
-	f.T.Helper()
-	if err == api.OK {
-		f.Release(result)
-	}
-}
-
 // insertAround inserts a key that the tree contains, and those beside it. All kinds of insertions require the same slots.
 func (f fixture) insertAround(root uint32, e api.Entry) {
 	f.T.Helper()
-	f.dropping(f.insert(root, e))
-	f.dropping(f.increase(root, e.Key, 0))
-	f.dropping(f.increase(root, e.Key, -3))
+	f.Discard(f.insert(root, e))
+	f.Discard(f.increase(root, e.Key, 0))
+	f.Discard(f.increase(root, e.Key, -3))
 	for d := int64(-1); d <= 1; d++ {
-		f.dropping(f.insert(root, api.Entry{Key: e.Key + d, Value: 5 * d}))
+		f.Discard(f.insert(root, api.Entry{Key: e.Key + d, Value: 5 * d}))
 	}
-	f.dropping(f.increase(root, e.Key+1, e.Value))
+	f.Discard(f.increase(root, e.Key+1, e.Value))
 }
 
 // deleteAround deletes a key that the tree contains, and tries to delete those beside it.
 func (f fixture) deleteAround(root uint32, key int64) {
 	f.T.Helper()
 	for d := int64(-1); d <= 1; d++ {
-		f.dropping(f.delete(root, key+d))
+		f.Discard(f.delete(root, key+d))
 	}
 }
 
@@ -95,10 +80,7 @@ func TestHighTrees(t *testing.T) {
 		s := treetest.Thinnest(36, way)
 		updateAll(t, s, []int{s.Deepest()})
 	}
-	n := api.MaxSlots
-	for n+reserve.Insert(n) > api.MaxSlots {
-		n--
-	}
+	n := treetest.Largest(reserve.Insert)
 	updateAll(t, treetest.Full(n), []int{0, n / 2})
 }
 
@@ -108,7 +90,7 @@ func TestEmptyTree(t *testing.T) {
 		f := newFixture(t, 1+reserve.Delete(1))
 		f.delete(0, e.Key)
 		root, _ := f.insert(0, e)
-		f.dropping(f.increase(0, e.Key, e.Value))
+		f.Discard(f.increase(0, e.Key, e.Value))
 		f.insert(root, e)
 		f.delete(root, e.Key+1)
 		if empty, err := f.delete(root, e.Key); empty != 0 || err != api.OK {
@@ -129,9 +111,9 @@ func TestFreeSlots(t *testing.T) {
 				want = api.ErrFull
 			}
 			got, err := f.insert(root, api.Entry{Key: 1, Value: 2})
-			f.dropping(got, err)
+			f.Discard(got, err)
 			sum, alike := f.increase(root, 1, 2)
-			f.dropping(sum, alike)
+			f.Discard(sum, alike)
 			if err != want || alike != want {
 				t.Errorf("P14.1, P14.3: %d keys, %d free: %d, %d", c.n, free, err, alike)
 			}
@@ -142,7 +124,7 @@ func TestFreeSlots(t *testing.T) {
 			if (err == api.OK) != (free >= c.delete) {
 				t.Errorf("P14.2: %d keys, %d free: %d", c.n, free, err)
 			}
-			f.dropping(got, err)
+			f.Discard(got, err)
 		}
 	}
 }
@@ -170,21 +152,14 @@ func TestFullArena(t *testing.T) {
 
 // TestExtremeKeys has all trees whose keys are among some at the ends of the integers and around 0.
 func TestExtremeKeys(t *testing.T) {
-	keys := []int64{math.MinInt64, math.MinInt64 + 1, -1, 0, 1, math.MaxInt64 - 1, math.MaxInt64}
-	for set := range 1 << len(keys) {
-		var entries []api.Entry
-		for bit, key := range keys {
-			if set>>bit&1 == 1 {
-				entries = append(entries, api.Entry{Key: key, Value: keys[(bit+3)%len(keys)]})
-			}
-		}
+	for _, entries := range treetest.ExtremeLists() {
 		f, root := plantWith(t, treetest.Full(len(entries)), entries, 60)
-		for _, key := range keys {
-			for _, value := range keys {
-				f.dropping(f.insert(root, api.Entry{Key: key, Value: value}))
-				f.dropping(f.increase(root, key, value))
+		for _, key := range treetest.Extremes() {
+			for _, value := range treetest.Extremes() {
+				f.Discard(f.insert(root, api.Entry{Key: key, Value: value}))
+				f.Discard(f.increase(root, key, value))
 			}
-			f.dropping(f.delete(root, key))
+			f.Discard(f.delete(root, key))
 		}
 	}
 }
